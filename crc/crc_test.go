@@ -8,18 +8,8 @@ import (
 	"testing"
 
 	"masonry/api"
+	"masonry/sample"
 )
-
-// some tells n bytes that look like nothing in particular.
-func some(n int) string {
-	b := make([]byte, n)
-	x := uint32(n) + 1
-	for k := range b {
-		x = x*1664525 + 1013904223
-		b[k] = byte(x >> 24)
-	}
-	return string(b)
-}
 
 // sum tells the four bytes of a sum of b, told by the library.
 func sum(b string) string {
@@ -96,7 +86,7 @@ func TestP201OfEachByte(t *testing.T) {
 }
 
 func TestP201OfOneBehindTheOther(t *testing.T) {
-	b := some(300)
+	b := sample.Bytes(300)
 	want := crc32.ChecksumIEEE([]byte(b))
 	for k := range len(b) + 1 {
 		if got := Of(b[:k], b[k:]); got != want {
@@ -124,7 +114,7 @@ func TestP201Seal(t *testing.T) {
 	wantSeal(t, "in order", "ba"+sum("ba"), 6, "b", "a")
 	wantSeal(t, "zero bytes of its own", body+sum(body), 20, body)
 	wantSeal(t, "not runes", "\xff\x80"+sum("\xff\x80"), 6, "\xff", "\x80")
-	full := some(api.Sector - 4)
+	full := sample.Bytes(api.Sector - 4)
 	wantSeal(t, "a sector", full+sum(full), api.Sector, full[:100], full[100:])
 }
 
@@ -138,7 +128,7 @@ func TestP201SealEdges(t *testing.T) {
 	wantSeal(t, "8 of empty ones", "\x00\x00\x00\x00\x1c\xdf\x44\x21", 8, "", "")
 	wantSeal(t, "65,536 of none", zero[:65532]+sum(zero[:65532]), 65536)
 	wantSeal(t, "65,536 of a byte", "a"+zero[:65531]+sum("a"+zero[:65531]), 65536, "a")
-	full := some(65532)
+	full := sample.Bytes(65532)
 	wantSeal(t, "65,536, full", full+sum(full), 65536, full)
 	wantSeal(t, "65,536, full of several", full+sum(full), 65536, full[:1], full[1:65531], full[65531:])
 }
@@ -155,7 +145,7 @@ func TestP201SealWrong(t *testing.T) {
 	wantSealFault(t, "one byte too many of several", api.ErrLong, 13, "1234", "56789", "a")
 	wantSealFault(t, "a zero byte too many", api.ErrLong, 6, "ab\x00")
 	wantSealFault(t, "n bytes", api.ErrLong, 13, "123456789abcd")
-	full := some(65533)
+	full := sample.Bytes(65533)
 	wantSealFault(t, "65,536, one byte too many", api.ErrLong, 65536, full)
 	wantSealFault(t, "65,536, one byte too many of several", api.ErrLong, 65536, full[:65532], full[65532:])
 	wantSealFault(t, "far too many", api.ErrLong, 65536, slices.Repeat([]string{full}, 1000)...)
@@ -181,7 +171,7 @@ func TestP201Open(t *testing.T) {
 	wantOpen(t, "just 4 bytes", "", "\x00\x00\x00\x00")
 	wantOpen(t, "5 bytes", "a", "a\x43\xbe\xb7\xe8")
 	wantOpen(t, "not runes", "\xff\x80", "\xff\x80"+sum("\xff\x80"))
-	long := some(70000)
+	long := sample.Bytes(70000)
 	wantOpen(t, "more than Seal lays", long, long+sum(long))
 }
 
@@ -210,7 +200,7 @@ func TestP202WhatWasSealedIsOpened(t *testing.T) {
 			if size < 0 || size > n-4 {
 				continue
 			}
-			b := some(size)
+			b := sample.Bytes(size)
 			s, e := Seal(n, b[:size/3], b[size/3:])
 			if e != api.OK || len(s) != n {
 				t.Fatalf("%d of %d bytes: %d bytes, %d", n, size, len(s), e)
@@ -222,7 +212,7 @@ func TestP202WhatWasSealedIsOpened(t *testing.T) {
 
 func TestP202EachByteChanged(t *testing.T) {
 	for _, n := range []int{4, 5, 20, api.Sector} {
-		s, e := Seal(n, some((n-4)/2))
+		s, e := Seal(n, sample.Bytes((n-4)/2))
 		if e != api.OK {
 			t.Fatal(n, e)
 		}
@@ -243,7 +233,7 @@ func TestP202EachByteChanged(t *testing.T) {
 }
 
 func TestP202ByteChangedInTheLongest(t *testing.T) {
-	s, e := Seal(65536, some(60000))
+	s, e := Seal(65536, sample.Bytes(60000))
 	if e != api.OK {
 		t.Fatal(e)
 	}

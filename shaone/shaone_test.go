@@ -4,22 +4,14 @@ import (
 	"crypto/sha1"
 	"encoding/binary"
 	"encoding/hex"
+	"fmt"
 	"math"
 	"slices"
 	"strings"
 	"testing"
-)
 
-// some tells n bytes that look like nothing in particular.
-func some(n int) string {
-	b := make([]byte, n)
-	x := uint32(n) + 1
-	for k := range b {
-		x = x*1664525 + 1013904223
-		b[k] = byte(x >> 24)
-	}
-	return string(b)
-}
+	"masonry/sample"
+)
 
 // wantPad asks that Pad of n is want.
 func wantPad(t *testing.T, n int, want string) {
@@ -38,10 +30,11 @@ func wantSum(t *testing.T, what, want string, l ...string) {
 }
 
 // wantLibrary asks that Sum of l is what the library tells of all of l, one behind the other.
-func wantLibrary(t *testing.T, what string, l ...string) {
+func wantLibrary(t *testing.T, l ...string) {
 	t.Helper()
-	sum := sha1.Sum([]byte(strings.Join(l, "")))
-	wantSum(t, what, hex.EncodeToString(sum[:]), l...)
+	b := strings.Join(l, "")
+	sum := sha1.Sum([]byte(b))
+	wantSum(t, fmt.Sprintf("%d bytes %.20x in %d texts", len(b), b, len(l)), hex.EncodeToString(sum[:]), l...)
 }
 
 // P301: Pad.
@@ -109,55 +102,34 @@ func TestP302Known(t *testing.T) {
 }
 
 func TestP302EachLength(t *testing.T) {
-	for n := range 400 {
-		wantLibrary(t, "some bytes", some(n))
-		wantLibrary(t, "zero bytes", strings.Repeat("\x00", n))
-		wantLibrary(t, "bytes of ones", strings.Repeat("\xff", n))
-	}
-	for _, n := range []int{4095, 4096, 65536, 1<<20 + 63} {
-		wantLibrary(t, "many bytes", some(n))
+	for _, b := range sample.Lengths() {
+		wantLibrary(t, b)
 	}
 }
 
 func TestP302EachByte(t *testing.T) {
-	for k := range 256 {
-		wantLibrary(t, "a byte", string([]byte{byte(k)}))
-		wantLibrary(t, "a block", strings.Repeat(string([]byte{byte(k)}), 64))
+	for _, b := range sample.Blocks() {
+		wantLibrary(t, b)
 	}
 }
 
 func TestP302Edges(t *testing.T) {
-	for _, n := range []int{54, 55, 56, 57, 63, 64, 65, 119, 120, 127, 128, 129} {
-		b := some(n)
-		wantLibrary(t, "one text", b)
-		wantLibrary(t, "a text and a byte", b[:n-1], b[n-1:])
-		wantLibrary(t, "a byte and a text", b[:1], b[1:])
-		wantLibrary(t, "a text and empty ones", "", b, "", "")
-		one := make([]string, n)
-		for k := range one {
-			one[k] = b[k : k+1]
-		}
-		wantLibrary(t, "a text a byte", one...)
+	for _, l := range sample.Edges() {
+		wantLibrary(t, l...)
 	}
 }
 
 func TestP302OneTextCut(t *testing.T) {
 	for _, n := range []int{55, 56, 63, 64, 65, 130} {
-		b := some(n)
-		sum := sha1.Sum([]byte(b))
-		want := hex.EncodeToString(sum[:])
-		for j := range n + 1 {
-			wantSum(t, "cut into two", want, b[:j], b[j:])
-			for k := j; k <= n; k++ {
-				wantSum(t, "cut into three", want, b[:j], b[j:k], b[k:])
-			}
+		for _, l := range sample.Cuts(sample.Bytes(n)) {
+			wantLibrary(t, l...)
 		}
 	}
 }
 
 func TestP302OrderCounts(t *testing.T) {
-	wantLibrary(t, "ab, c", "ab", "c")
-	wantLibrary(t, "c, ab", "c", "ab")
+	wantLibrary(t, "ab", "c")
+	wantLibrary(t, "c", "ab")
 	if Sum("ab", "c") == Sum("c", "ab") {
 		t.Error("the order of the texts does not count")
 	}
@@ -167,11 +139,11 @@ func TestP302OrderCounts(t *testing.T) {
 }
 
 func TestP302KeepsNothing(t *testing.T) {
-	l := []string{"a", "", some(70), "d"}
+	l := []string{"a", "", sample.Bytes(70), "d"}
 	had := slices.Clone(l)
 	one := Sum(l...)
 	Sum(l[:2]...)
-	Sum("another", some(300))
+	Sum("another", sample.Bytes(300))
 	if two := Sum(l...); one != two {
 		t.Errorf("the same texts: %x, then %x", one, two)
 	}

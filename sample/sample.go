@@ -1,0 +1,69 @@
+// Package sample has what the tests of several packages hand in.
+package sample
+
+// Bytes tells n bytes that look like nothing in particular.
+func Bytes(n int) string {
+	b := make([]byte, n)
+	x := uint32(n) + 1
+	for k := range b {
+		x = x*1664525 + 1013904223
+		b[k] = byte(x >> 24)
+	}
+	return string(b)
+}
+
+// Lengths tells texts of each length up to a few blocks of 64 bytes, and some long ones.
+func Lengths() []string {
+	var l []string
+	for n := range 400 {
+		l = append(l, Bytes(n), same(0, n), same(255, n))
+	}
+	for _, n := range []int{4095, 4096, 65536, 1<<20 + 63} {
+		l = append(l, Bytes(n))
+	}
+	return l
+}
+
+// Blocks tells for each byte a text of it alone, and a block of 64 of them.
+func Blocks() []string {
+	var l []string
+	for k := range 256 {
+		l = append(l, same(byte(k), 1), same(byte(k), 64))
+	}
+	return l
+}
+
+// Edges tells texts that end near a place where a digest of blocks of 64 bytes turns, cut and with empty ones beside them.
+func Edges() [][]string {
+	var l [][]string
+	for _, n := range []int{54, 55, 56, 57, 63, 64, 65, 119, 120, 127, 128, 129} {
+		b := Bytes(n)
+		one := make([]string, n)
+		for k := range one {
+			one[k] = b[k : k+1]
+		}
+		l = append(l, []string{b}, []string{b[:n-1], b[n-1:]}, []string{b[:1], b[1:]}, []string{"", b, "", ""}, one)
+	}
+	return l
+}
+
+// Cuts tells b cut at each place into two, and at each two places into three.
+func Cuts(b string) [][]string {
+	var l [][]string
+	for j := range len(b) + 1 {
+		l = append(l, []string{b[:j], b[j:]})
+		for k := j; k <= len(b); k++ {
+			l = append(l, []string{b[:j], b[j:k], b[k:]})
+		}
+	}
+	return l
+}
+
+// same tells n times the byte b.
+func same(b byte, n int) string {
+	l := make([]byte, n)
+	for k := range l {
+		l[k] = b
+	}
+	return string(l)
+}
