@@ -38,11 +38,7 @@ func Edges() [][]string {
 	var l [][]string
 	for _, n := range []int{54, 55, 56, 57, 63, 64, 65, 119, 120, 127, 128, 129} {
 		b := Bytes(n)
-		one := make([]string, n)
-		for k := range one {
-			one[k] = b[k : k+1]
-		}
-		l = append(l, []string{b}, []string{b[:n-1], b[n-1:]}, []string{b[:1], b[1:]}, []string{"", b, "", ""}, one)
+		l = append(l, []string{b}, []string{b[:n-1], b[n-1:]}, []string{b[:1], b[1:]}, []string{"", b, "", ""}, Single(b))
 	}
 	return l
 }
@@ -55,6 +51,15 @@ func Cuts(b string) [][]string {
 		for k := j; k <= len(b); k++ {
 			l = append(l, []string{b[:j], b[j:k], b[k:]})
 		}
+	}
+	return l
+}
+
+// Single tells each byte of b in a text of its own.
+func Single(b string) []string {
+	l := make([]string, len(b))
+	for k := range l {
+		l[k] = b[k : k+1]
 	}
 	return l
 }
