@@ -29,11 +29,7 @@ func least(t *testing.T) *Disk {
 	return made(t, api.Least)
 }
 
-// full tells a sector of one byte, over and over.
-func full(b byte) string { return strings.Repeat(string([]byte{b}), api.Sector) }
-
-// put tells a write of such a sector.
-func put(at int, b byte) api.Write { return api.Write{At: at, Data: full(b)} }
+var full, put = sample.Full, sample.Put
 
 // puts tells a write of each byte of text, in the sectors 0 and on.
 func puts(text string) []api.Write {

@@ -1,6 +1,12 @@
 // Package sample has what the tests of several packages hand in.
 package sample
 
+import (
+	"strings"
+
+	"masonry/api"
+)
+
 // Bytes tells n bytes that look like nothing in particular.
 func Bytes(n int) string {
 	b := make([]byte, n)
@@ -60,6 +66,50 @@ func Single(b string) []string {
 	l := make([]string, len(b))
 	for k := range l {
 		l[k] = b[k : k+1]
+	}
+	return l
+}
+
+// Full tells a sector of one byte, over and over.
+func Full(b byte) string { return same(b, api.Sector) }
+
+// Other tells a sector that hangs on two numbers.
+func Other(k, salt int) string {
+	return Bytes(1000 + 7*k + 3*salt)[:api.Sector-2] + string([]byte{byte(k), byte(k >> 8)})
+}
+
+// Put tells a write of a Full sector.
+func Put(at int, b byte) api.Write { return api.Write{At: at, Data: Full(b)} }
+
+// Misfits tells what is no sector.
+func Misfits() []string {
+	var l []string
+	for _, n := range []int{0, 1, 128, 254, 255, 257, 258, 511, 512, 65536, 65536 + 256} {
+		l = append(l, strings.Repeat("x", n))
+	}
+	return l
+}
+
+// Choices tells each choice of which of n writes a Crash keeps.
+func Choices(n int) [][]int {
+	var l [][]int
+	for x := range 1 << n {
+		keep := make([]int, n)
+		for k := range keep {
+			keep[k] = x >> k & 1
+		}
+		l = append(l, keep)
+	}
+	return l
+}
+
+// Somes tells a few choices of which of n writes a Crash keeps.
+func Somes(n int) [][]int {
+	l := make([][]int, 6)
+	for k := range n {
+		for m, keep := range []int{0, 1, k & 1, 1 - k&1, k * k % 7, k / (n/2 + 1)} {
+			l[m] = append(l[m], keep)
+		}
 	}
 	return l
 }

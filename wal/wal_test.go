@@ -12,6 +12,7 @@ import (
 	"masonry/disk"
 	"masonry/head"
 	"masonry/sample"
+	"masonry/witness"
 )
 
 const (
@@ -19,15 +20,16 @@ const (
 	most   = api.Sectors - 111 // of one of the most
 )
 
-// made tells a new disk of n sectors.
-func made(t *testing.T, n int) *disk.Disk {
-	t.Helper()
-	d, e := disk.New(n)
-	if e != api.OK {
-		t.Fatalf("disk.New(%d): %d", n, e)
-	}
-	return d
-}
+var (
+	full, put, other, misfits     = sample.Full, sample.Put, sample.Other, sample.Misfits
+	choices, somes                = sample.Choices, sample.Somes
+	made, lay, headed             = witness.Made, witness.Lay, witness.Headed
+	look, homeOf, becomes, follow = witness.Look, witness.Home, witness.Becomes, witness.Follow
+	redone, committed             = witness.Redone, witness.Committed
+	want, wantSector, wantFault   = witness.Want, witness.WantSector, witness.WantFault
+	wantCounts, wantSight         = witness.WantCounts, witness.WantSight
+	wantActs, untouched           = witness.WantActs, witness.Untouched
+)
 
 // opened tells the Wal of a disk.
 func opened(t *testing.T, d *disk.Disk) *Wal {
@@ -45,12 +47,6 @@ func least(t *testing.T) (*disk.Disk, *Wal) {
 	d := made(t, api.Least)
 	return d, opened(t, d)
 }
-
-// full tells a sector of one byte, over and over.
-func full(b byte) string { return strings.Repeat(string([]byte{b}), api.Sector) }
-
-// put tells a write of such a sector.
-func put(at int, b byte) api.Write { return api.Write{At: at, Data: full(b)} }
 
 // puts tells a write of each byte of text that is not '-', in the sectors from and on.
 func puts(from int, text string) []api.Write {
@@ -72,71 +68,14 @@ func many(n, salt int) []api.Write {
 	return l
 }
 
-// other tells a sector that hangs on two numbers.
-func other(k, salt int) string {
-	return sample.Bytes(1000 + 7*k + 3*salt)[:254] + string([]byte{byte(k), byte(k >> 8)})
-}
-
-// lay tells a head's sector.
-func lay(t *testing.T, h head.Head) string {
-	t.Helper()
-	b, e := head.Lay(h)
-	if e != api.OK {
-		t.Fatalf("head.Lay(%v): %d", h, e)
-	}
-	return b
-}
-
 // fullHead tells a head that is Full.
 func fullHead(seq int, targets ...int) head.Head {
 	return head.Head{Seq: seq, Full: true, Targets: targets}
 }
 
-// headed tells a disk of n sectors that has the sector b as its head, and text in the sectors 1 and on, all of it safe.
-func headed(t *testing.T, n int, b, text string) *disk.Disk {
-	t.Helper()
-	d := made(t, n)
-	want(t, "disk.Write", api.OK, d.Write(append(puts(1, text), api.Write{At: 0, Data: b})...))
-	want(t, "disk.Flush", api.OK, d.Flush())
-	return d
-}
-
 // outside tells numbers that are no home sector of n.
 func outside(n int) []int {
 	return []int{-1, -2, -110, -111, -112, -n, n, n + 1, n + 111, n + 1000, 1<<32 + 1, -1 << 32, math.MaxInt, math.MaxInt - 110, math.MaxInt - 111, math.MinInt, math.MinInt + 1}
-}
-
-// misfits tells what is no sector.
-func misfits() []string {
-	var l []string
-	for _, n := range []int{0, 1, 128, 254, 255, 257, 258, 511, 512, 65536 + 256} {
-		l = append(l, strings.Repeat("x", n))
-	}
-	return l
-}
-
-// want asks that an error is the one that is wanted.
-func want(t *testing.T, what string, want, got api.Errno) {
-	t.Helper()
-	if got != want {
-		t.Errorf("%s: %d, not %d", what, got, want)
-	}
-}
-
-// wantSector asks that the home sector at has data.
-func wantSector(t *testing.T, what string, w *Wal, at int, data string) {
-	t.Helper()
-	if got, e := w.Read(at); got != data || e != api.OK {
-		t.Errorf("%s: sector %d: %d bytes %.8q, %d, not %.8q", what, at, len(got), got, e, data)
-	}
-}
-
-// wantFault asks that reading the home sector at answers the error want, and nothing.
-func wantFault(t *testing.T, what string, w *Wal, at int, want api.Errno) {
-	t.Helper()
-	if got, e := w.Read(at); got != "" || e != want {
-		t.Errorf("%s: sector %d: %d bytes %.8q, %d, not error %d", what, at, len(got), got, e, want)
-	}
 }
 
 // wantHome asks that the first home sectors are of the bytes of text (0: of zero bytes), and all others of zero bytes.
@@ -151,173 +90,12 @@ func wantHome(t *testing.T, what string, w *Wal, text string) {
 	}
 }
 
-// wantCounts asks for Seq, Up and Commits.
-func wantCounts(t *testing.T, what string, w *Wal, seq int, up bool, commits int) {
-	t.Helper()
-	if w.Seq() != seq || w.Up() != up || w.Commits() != commits {
-		t.Errorf("%s: %d, %t, %d, not %d, %t, %d", what, w.Seq(), w.Up(), w.Commits(), seq, up, commits)
-	}
-}
-
 // wantNone asks that Open answers the error want, and no Wal.
 func wantNone(t *testing.T, what string, want api.Errno, d *disk.Disk) {
 	t.Helper()
 	if w, e := Open(d); w != nil || e != want {
 		t.Errorf("%s: Open: %v, %d, not error %d", what, w, e, want)
 	}
-}
-
-// sight is what is to be seen of a disk.
-type sight struct {
-	now, safe     string
-	on            bool
-	dirty, writes int
-}
-
-// look tells what is to be seen of a disk, which stays as it is.
-func look(d *disk.Disk) sight {
-	now, safe := d.Twin(), d.Twin()
-	now.Restore()
-	safe.Crash()
-	safe.Restore()
-	return sight{bytesOf(now, 0), bytesOf(safe, 0), d.On(), d.Dirty(), d.Writes()}
-}
-
-// bytesOf tells all sectors of a disk from one on, one behind the other.
-func bytesOf(d *disk.Disk, from int) string {
-	var b strings.Builder
-	b.Grow((d.Size() - from) * api.Sector)
-	for at := from; at < d.Size(); at++ {
-		s, _ := d.Read(at)
-		b.WriteString(s)
-	}
-	return b.String()
-}
-
-// wantSight asks that a disk looks so.
-func wantSight(t *testing.T, what string, d *disk.Disk, want sight) {
-	t.Helper()
-	got := look(d)
-	if got == want {
-		return
-	}
-	t.Errorf("%s: power %t, %d not safe, %d writes, not %t, %d, %d", what, got.on, got.dirty, got.writes, want.on, want.dirty, want.writes)
-	for at := range d.Size() {
-		from := at * api.Sector
-		to := from + api.Sector
-		if got.now[from:to] != want.now[from:to] || got.safe[from:to] != want.safe[from:to] {
-			t.Errorf("%s: sector %d: %.8q, %.8q safe, not %.8q, %.8q", what, at, got.now[from:to], got.safe[from:to], want.now[from:to], want.safe[from:to])
-		}
-	}
-}
-
-// untouched asks that do neither changes anything of a disk nor writes or flushes: if it did, the power would go.
-func untouched(t *testing.T, what string, d *disk.Disk, do func()) {
-	t.Helper()
-	before := look(d)
-	d.Arm(0)
-	do()
-	wantSight(t, what, d, before)
-	d.Arm(-1)
-}
-
-// act is a sector write, or a Flush.
-type act struct {
-	flush bool
-	write api.Write
-}
-
-// groups tells what is done to a disk when each of l is written and flushed.
-func groups(l ...[]api.Write) []act {
-	var acts []act
-	for _, g := range l {
-		for _, w := range g {
-			acts = append(acts, act{write: w})
-		}
-		acts = append(acts, act{flush: true})
-	}
-	return acts
-}
-
-// redone tells what an Open does of a head that is Full; l rises, and each sector is in it once.
-func redone(t *testing.T, seq int, l ...api.Write) []act {
-	t.Helper()
-	var home []api.Write
-	for _, w := range l {
-		home = append(home, api.Write{At: 111 + w.At, Data: w.Data})
-	}
-	return groups(home, []api.Write{{At: 0, Data: lay(t, head.Head{Seq: seq})}})
-}
-
-// committed tells what a Commit does, behind which the head's number is seq; l rises, and each sector is in it once.
-func committed(t *testing.T, seq int, l ...api.Write) []act {
-	t.Helper()
-	var copies []api.Write
-	var targets []int
-	for k, w := range l {
-		copies = append(copies, api.Write{At: 1 + k, Data: w.Data})
-		targets = append(targets, w.At)
-	}
-	acts := groups(copies, []api.Write{{At: 0, Data: lay(t, fullHead(seq, targets...))}})
-	return append(acts, redone(t, seq, l...)...)
-}
-
-// follow does to a disk what acts say.
-func follow(d *disk.Disk, acts []act) {
-	for _, a := range acts {
-		if a.flush {
-			d.Flush()
-		} else {
-			d.Write(a.write)
-		}
-	}
-}
-
-// wantActs asks that do does to a disk just what acts say: with the power going at each of them, with each choice of what is kept.
-func wantActs(t *testing.T, what string, d *disk.Disk, acts []act, keeps [][]int, do func(d *disk.Disk) api.Errno) {
-	t.Helper()
-	for n := range len(acts) + 2 {
-		e := api.OK
-		if n < len(acts) {
-			e = api.ErrOff
-		}
-		for _, keep := range keeps {
-			got, model := d.Twin(), d.Twin()
-			got.Arm(n, keep...)
-			model.Arm(n, keep...)
-			want(t, what, e, do(got))
-			follow(model, acts)
-			wantSight(t, what, got, look(model))
-			got.Write(put(0, 'z')) // the disk that is armed for one act more is off behind this one, if there was no act too many or too few
-			if got.On() != (n > len(acts)) {
-				t.Errorf("%s: %d acts, and not %d", what, n, len(acts))
-			}
-		}
-	}
-}
-
-// choices tells each choice of which of n writes are kept.
-func choices(n int) [][]int {
-	var l [][]int
-	for x := range 1 << n {
-		keep := make([]int, n)
-		for k := range keep {
-			keep[k] = x >> k & 1
-		}
-		l = append(l, keep)
-	}
-	return l
-}
-
-// somes tells a few choices of which of n writes are kept.
-func somes(n int) [][]int {
-	l := make([][]int, 6)
-	for k := range n {
-		for m, keep := range []int{0, 1, k & 1, 1 - k&1, k * k % 7, k / (n/2 + 1)} {
-			l[m] = append(l[m], keep)
-		}
-	}
-	return l
 }
 
 // P901: Open.
@@ -953,18 +731,6 @@ func TestP903Zero(t *testing.T) {
 
 // P904: wherever the power goes.
 
-// homeOf tells all home sectors of a disk, one behind the other.
-func homeOf(d *disk.Disk) string { return bytesOf(d, 111) }
-
-// becomes tells what home is when l is written.
-func becomes(home string, l []api.Write) string {
-	b := []byte(home)
-	for _, x := range l {
-		copy(b[x.At*api.Sector:], x.Data)
-	}
-	return string(b)
-}
-
 // wantEither asks that a disk, opened at last, is as ahead of a Commit or as behind it, and goes on.
 func wantEither(t *testing.T, what string, d *disk.Disk, told api.Errno, before, behind string) {
 	t.Helper()
@@ -976,7 +742,7 @@ func wantEither(t *testing.T, what string, d *disk.Disk, told api.Errno, before,
 	if got != behind && (got != before || told == api.OK) {
 		t.Errorf("%s: told %d, and neither as ahead nor as behind", what, told)
 	}
-	if w.Commit(put(4, 'q')) != api.OK || homeOf(d) != becomes(got, puts(4, "q")) {
+	if w.Commit(put(4, 'q')) != api.OK || homeOf(d) != becomes(got, puts(4, "q")...) {
 		t.Errorf("%s: it does not go on", what)
 	}
 }
@@ -984,27 +750,19 @@ func wantEither(t *testing.T, what string, d *disk.Disk, told api.Errno, before,
 // broken commits l on a Twin of d, with the power going at the act n, and tells the disk that has power again, and what was told.
 func broken(t *testing.T, d *disk.Disk, l []api.Write, n int, keep []int) (*disk.Disk, api.Errno) {
 	t.Helper()
-	c := d.Twin()
-	w := opened(t, c)
-	c.Arm(n, keep...)
-	e := w.Commit(l...)
-	if w.Up() != (e == api.OK) {
-		t.Errorf("told %d, and up is %t", e, w.Up())
-	}
-	c.Arm(-1)
-	c.Crash(keep...)
-	c.Restore()
-	return c, e
+	return witness.Broken(d, n, keep, func(d *disk.Disk) api.Errno {
+		w := opened(t, d)
+		e := w.Commit(l...)
+		if w.Up() != (e == api.OK) {
+			t.Errorf("told %d, and up is %t", e, w.Up())
+		}
+		return e
+	})
 }
 
 // reopened opens a Twin of d, with the power going at the act n, and tells the disk that has power again.
 func reopened(d *disk.Disk, n int, keep []int) *disk.Disk {
-	c := d.Twin()
-	c.Arm(n, keep...)
-	Open(c)
-	c.Arm(-1)
-	c.Crash(keep...)
-	c.Restore()
+	c, _ := witness.Broken(d, n, keep, func(d *disk.Disk) api.Errno { _, e := Open(d); return e })
 	return c
 }
 
@@ -1014,7 +772,7 @@ func TestP904(t *testing.T) {
 	want(t, "Commit", api.OK, v.Commit(puts(0, "abc")...))
 	before := homeOf(first)
 	for _, l := range [][]api.Write{puts(2, "x"), puts(0, "xy-z"), {put(28, 'x'), put(0, 'y'), put(28, 'z')}} {
-		behind := becomes(before, l)
+		behind := becomes(before, l...)
 		for n := range 14 {
 			for _, keep := range choices(3) {
 				d, told := broken(t, first, l, n, keep)
@@ -1043,7 +801,7 @@ func TestP904MaxTx(t *testing.T) {
 		l[k].At += 9
 	}
 	slices.Reverse(l)
-	behind := becomes(before, l)
+	behind := becomes(before, l...)
 	for n := range 226 {
 		for k, keep := range somes(110) {
 			d, told := broken(t, first, l, n, keep)
@@ -1063,7 +821,7 @@ func TestP904Acts(t *testing.T) {
 	first, _ := least(t)
 	before := homeOf(first)
 	l := puts(0, "xyz")
-	behind := becomes(before, l)
+	behind := becomes(before, l...)
 	for n := range 13 {
 		for _, keep := range choices(3) {
 			d, told := broken(t, first, l, n, keep)
@@ -1096,7 +854,7 @@ func TestP904Run(t *testing.T) {
 				d.Arm(next(30), next(2), next(2), next(2), next(2), next(2))
 			}
 			e := w.Commit(l...)
-			behind := becomes(home, l)
+			behind := becomes(home, l...)
 			if e == api.OK {
 				home = behind
 			}
