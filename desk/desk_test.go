@@ -23,10 +23,13 @@ const (
 
 var (
 	full, put, choices        = sample.Full, sample.Put, sample.Choices
+	upTo, outside             = sample.UpTo, sample.Outside
 	made, lay, headed, broken = witness.Made, witness.Lay, witness.Headed, witness.Broken
 	want, wantRead            = witness.Want, witness.WantSector
 	wantCounts, wantActs      = witness.WantCounts, witness.WantActs
-	untouched                 = witness.Untouched
+	wantGet, wantFault        = witness.WantGet, witness.WantNoGet
+	wantUsed, wantDirty       = witness.WantUsed, witness.WantDirty
+	untouched, kept           = witness.Untouched, witness.Kept
 )
 
 // formatted tells a new disk of n sectors, and the Desk that Format made on it.
@@ -80,37 +83,6 @@ func roomOf(t *testing.T, n int, used ...int) string {
 	return s
 }
 
-// upTo tells the numbers from and on, below to.
-func upTo(from, to int) []int {
-	var l []int
-	for at := from; at < to; at++ {
-		l = append(l, at)
-	}
-	return l
-}
-
-// outside tells numbers that are no home sector of n.
-func outside(n int) []int {
-	return []int{-1, -2, -110, -111, -112, -n, n, n + 1, n + 111, n + 1000, 1900, 2000, 1 << 16, 1<<32 + 2, -1<<32 + 2, math.MaxInt, math.MaxInt - 111, math.MinInt, math.MinInt + 2}
-}
-
-// gets reads what Get tells.
-type gets struct{ *Desk }
-
-func (g gets) Read(at int) (string, api.Errno) { return g.Get(at) }
-
-// wantGet asks that the sector at has data.
-func wantGet(t *testing.T, what string, k *Desk, at int, data string) {
-	t.Helper()
-	witness.WantSector(t, what, gets{k}, at, data)
-}
-
-// wantFault asks that Get answers the error want, and nothing.
-func wantFault(t *testing.T, what string, k *Desk, at int, want api.Errno) {
-	t.Helper()
-	witness.WantFault(t, what, gets{k}, at, want)
-}
-
 // wantNew asks that New takes the sector at.
 func wantNew(t *testing.T, what string, k *Desk, data string, at int) {
 	t.Helper()
@@ -124,25 +96,6 @@ func wantNoNew(t *testing.T, what string, k *Desk, data string, want api.Errno) 
 	t.Helper()
 	if got, e := k.New(data); got != 0 || e != want {
 		t.Errorf("%s: New: %d, %d, not error %d", what, got, e, want)
-	}
-}
-
-// wantDirty asks for what a Sync would write.
-func wantDirty(t *testing.T, what string, k *Desk, l ...int) {
-	t.Helper()
-	if got := k.Dirty(); !slices.Equal(got, l) {
-		t.Errorf("%s: Dirty: %v, not %v", what, got, l)
-	}
-}
-
-// wantUsed asks for the sectors that are in use.
-func wantUsed(t *testing.T, what string, k *Desk, l ...int) {
-	t.Helper()
-	if got := k.Room().All(); !slices.Equal(got, l) {
-		t.Errorf("%s: in use: %v, not %v", what, got, l)
-	}
-	if got := k.Room().Size(); got != k.Size() {
-		t.Errorf("%s: a Room of %d sectors, not %d", what, got, k.Size())
 	}
 }
 
@@ -174,44 +127,6 @@ func wantNoDesk(t *testing.T, what string, d *disk.Disk, open, format api.Errno)
 			t.Errorf("%s: Format: %v, %d, not error %d", what, k, e, format)
 		}
 	})
-}
-
-// look is all that is to be seen of a Desk but what its Wal tells.
-type look struct {
-	home        string // what Get tells of each home sector, and its error
-	used, dirty string
-	bad         api.Errno
-}
-
-// seen tells how a Desk looks.
-func seen(k *Desk) look {
-	var b strings.Builder
-	for at := range k.Size() {
-		s, e := k.Get(at)
-		b.WriteString(s + string([]byte{byte(e)}))
-	}
-	return look{b.String(), text(k.Room().All()), text(k.Dirty()), k.Bad()}
-}
-
-// text tells l as bytes.
-func text(l []int) string {
-	var b []byte
-	for _, n := range l {
-		b = append(b, byte(n), byte(n>>8))
-	}
-	return string(b)
-}
-
-// kept asks that do changes nothing of a Desk, nor of its disk.
-func kept(t *testing.T, what string, d *disk.Disk, k *Desk, do func()) {
-	t.Helper()
-	before := seen(k)
-	seq, up, commits := k.Seq(), k.Up(), k.Commits()
-	untouched(t, what, d, do)
-	if seen(k) != before {
-		t.Errorf("%s: something has changed: %v in use, %v dirty, %d bad", what, k.Room().All(), k.Dirty(), k.Bad())
-	}
-	wantCounts(t, what, k, seq, up, commits)
 }
 
 // P1101: Format.

@@ -2,6 +2,7 @@
 package sample
 
 import (
+	"math"
 	"strings"
 
 	"masonry/api"
@@ -80,6 +81,20 @@ func Other(k, salt int) string {
 
 // Put tells a write of a Full sector.
 func Put(at int, b byte) api.Write { return api.Write{At: at, Data: Full(b)} }
+
+// UpTo tells the numbers from and on, below to.
+func UpTo(from, to int) []int {
+	var l []int
+	for at := from; at < to; at++ {
+		l = append(l, at)
+	}
+	return l
+}
+
+// Outside tells numbers that are no home sector of n.
+func Outside(n int) []int {
+	return []int{-1, -2, -110, -111, -112, -n, n, n + 1, n + 111, n + 1000, 1900, 2000, 1 << 16, 1<<32 + 2, -1<<32 + 2, math.MaxInt, math.MaxInt - 111, math.MinInt, math.MinInt + 2}
+}
 
 // Misfits tells what is no sector.
 func Misfits() []string {

@@ -1,12 +1,14 @@
-// Package witness has what tests ask of a disk, and of what stands on one; the program does not call it.
+// Package witness has what tests ask of a disk, and of what stands on one, a Desk among it; the program does not call it.
 package witness
 
 import (
+	"slices"
 	"strings"
 
 	"masonry/api"
 	"masonry/disk"
 	"masonry/head"
+	"masonry/room"
 )
 
 const home = 111 // the disk's first home sector, written out: package wal is one of those that are asked
@@ -28,6 +30,16 @@ type Counter interface {
 	Seq() int
 	Up() bool
 	Commits() int
+}
+
+// Desk is what is asked of a Desk.
+type Desk interface {
+	Counter
+	Size() int
+	Get(at int) (string, api.Errno)
+	Room() *room.Room
+	Dirty() []int
+	Bad() api.Errno
 }
 
 // Made tells a new disk of n sectors.
@@ -244,4 +256,79 @@ func Broken(d *disk.Disk, n int, keep []int, do func(d *disk.Disk) api.Errno) (*
 	c.Crash(keep...)
 	c.Restore()
 	return c, e
+}
+
+// gets reads what Get tells.
+type gets struct{ Desk }
+
+// Read tells what Get tells.
+func (g gets) Read(at int) (string, api.Errno) { return g.Get(at) }
+
+// WantGet asks that Get tells that the sector at has data.
+func WantGet(t T, what string, k Desk, at int, data string) {
+	t.Helper()
+	WantSector(t, what, gets{k}, at, data)
+}
+
+// WantNoGet asks that Get of the sector at answers the error want, and nothing.
+func WantNoGet(t T, what string, k Desk, at int, want api.Errno) {
+	t.Helper()
+	WantFault(t, what, gets{k}, at, want)
+}
+
+// WantUsed asks for the sectors that are in use.
+func WantUsed(t T, what string, k Desk, l ...int) {
+	t.Helper()
+	if got := k.Room().All(); !slices.Equal(got, l) {
+		t.Errorf("%s: in use: %v, not %v", what, got, l)
+	}
+	if got := k.Room().Size(); got != k.Size() {
+		t.Errorf("%s: a Room of %d sectors, not %d", what, got, k.Size())
+	}
+}
+
+// WantDirty asks for what a Sync would write.
+func WantDirty(t T, what string, k Desk, l ...int) {
+	t.Helper()
+	if got := k.Dirty(); !slices.Equal(got, l) {
+		t.Errorf("%s: Dirty: %v, not %v", what, got, l)
+	}
+}
+
+// scene is all that is to be seen of a Desk but what its Wal tells.
+type scene struct {
+	home        string // what Get tells of each home sector, and its error
+	used, dirty string
+	bad         api.Errno
+}
+
+// seen tells how a Desk looks.
+func seen(k Desk) scene {
+	var b strings.Builder
+	for at := range k.Size() {
+		s, e := k.Get(at)
+		b.WriteString(s + string([]byte{byte(e)}))
+	}
+	return scene{b.String(), text(k.Room().All()), text(k.Dirty()), k.Bad()}
+}
+
+// text tells l as bytes.
+func text(l []int) string {
+	var b []byte
+	for _, n := range l {
+		b = append(b, byte(n), byte(n>>8))
+	}
+	return string(b)
+}
+
+// Kept asks that do changes nothing of a Desk, nor of its disk.
+func Kept(t T, what string, d *disk.Disk, k Desk, do func()) {
+	t.Helper()
+	before := seen(k)
+	seq, up, commits := k.Seq(), k.Up(), k.Commits()
+	Untouched(t, what, d, do)
+	if seen(k) != before {
+		t.Errorf("%s: something has changed: %v in use, %v dirty, %d bad", what, k.Room().All(), k.Dirty(), k.Bad())
+	}
+	WantCounts(t, what, k, seq, up, commits)
 }
