@@ -24,15 +24,6 @@ func spans(places ...int) []api.Span {
 	return l
 }
 
-// each tells every byte that there is.
-func each() string {
-	l := make([]byte, 256)
-	for k := range l {
-		l[k] = byte(k)
-	}
-	return string(l)
-}
-
 // counted tells the spans of size bytes, n each, counted byte by byte.
 func counted(n, size int) []api.Span {
 	var l []api.Span
@@ -59,11 +50,6 @@ func wholes(n int) [][]api.Span {
 	return l
 }
 
-// extremes tells the ints at either end.
-func extremes() []int {
-	return []int{math.MinInt, math.MinInt + 1, math.MaxInt - 1, math.MaxInt}
-}
-
 // below tells numbers of bytes that no piece has.
 func below() []int {
 	return []int{0, -1, -2, -3, -64, -256, -1 << 16, -1 << 31, -1 << 32, -1<<32 + 4, math.MinInt32, math.MinInt, math.MinInt + 1, math.MinInt + 4}
@@ -72,11 +58,6 @@ func below() []int {
 // great tells numbers of bytes above those of any text here.
 func great() []int {
 	return []int{1 << 21, 1 << 31, 1 << 32, 1<<32 + 1, 1<<32 + 4, math.MaxInt32, math.MaxInt / 2, math.MaxInt/2 + 1, math.MaxInt - 1, math.MaxInt}
-}
-
-// nothing tells lists of texts that have no bytes.
-func nothing() [][]string {
-	return [][]string{nil, {}, {""}, {"", ""}, make([]string, 300), make([]string, 0, 5)}
 }
 
 // wantCut asks that Cut answers want.
@@ -143,7 +124,7 @@ func TestP1301Cut(t *testing.T) {
 }
 
 func TestP1301CutOfNoBytes(t *testing.T) {
-	for _, l := range nothing() {
+	for _, l := range sample.Nothing() {
 		for _, n := range slices.Concat([]int{1, 2, 3, 4, 64, 1200}, below(), great()) {
 			wantCut(t, "no bytes", nil, n, l...)
 		}
@@ -206,7 +187,7 @@ func TestP1301CutOfTheSameBytesInSeveral(t *testing.T) {
 }
 
 func TestP1301CutLooksAtNoByte(t *testing.T) {
-	b := each()
+	b := sample.Each()
 	for n := 1; n < 260; n++ {
 		wantCut(t, "each byte", counted(n, 256), n, b)
 		wantCut(t, "each byte, one by one", counted(n, 256), n, sample.Single(b)...)
@@ -300,7 +281,7 @@ func TestP1301JoinOfAnySpans(t *testing.T) {
 }
 
 func TestP1301JoinOfAnyBytes(t *testing.T) {
-	s := each()
+	s := sample.Each()
 	for at := range len(s) {
 		wantJoin(t, "one byte", string([]byte{byte(at)}), s, span(at, at+1))
 		wantJoin(t, "from there on", s[at:], s, span(at, 256))
@@ -317,9 +298,9 @@ func astray(size int) []api.Span {
 	l := spans(-1, 0, -1, size, -1, -1, -2, -1, -size-1, size, -1, size+1, -1, -2) // From below 0
 	l = append(l, spans(1, 0, 2, 1, size, size-1, size, -1, size, -size-1, 0, -1, 0, -2, size+1, size, size+1, 0, size+2, size+1)...)
 	l = append(l, spans(0, size+1, 0, size+2, size, size+1, size+1, size+1, size+1, size+2, 0, 2*size+1, 0, 1<<31, 0, 1<<32, 0, 1<<32+size, 1<<32, 1<<32+size, -1<<32, -1<<32+size, 0, -1<<32+size, -1<<32, size, 1<<32, size)...)
-	for _, at := range extremes() {
+	for _, at := range sample.Extremes() {
 		l = append(l, spans(at, 0, at, size, at, at, 0, at, size, at)...)
-		for _, to := range extremes() {
+		for _, to := range sample.Extremes() {
 			l = append(l, span(at, to))
 		}
 	}
@@ -463,7 +444,7 @@ func TestP1301WholeAtTheEndsOfInts(t *testing.T) {
 	wantWhole(t, "at the least", false, least, span(least, least))
 	wantWhole(t, "at the greatest", false, most, span(most, most))
 	wantWhole(t, "an empty one at the greatest", false, most, spans(0, most, most, most)...)
-	for _, n := range extremes() {
+	for _, n := range sample.Extremes() {
 		wantWhole(t, "no spans", false, n)
 		wantWhole(t, "some", false, n, spans(0, 1, 1, 3)...)
 	}
@@ -539,8 +520,8 @@ func TestP1302TouchOfAnyRange(t *testing.T) {
 
 func TestP1302TouchOfNoSpans(t *testing.T) {
 	for _, l := range [][]api.Span{nil, {}, spans(0, 4)[:0]} {
-		for _, from := range slices.Concat([]int{-1, 0, 1, 5}, extremes()) {
-			for _, to := range slices.Concat([]int{-1, 0, 1, 5}, extremes()) {
+		for _, from := range slices.Concat([]int{-1, 0, 1, 5}, sample.Extremes()) {
+			for _, to := range slices.Concat([]int{-1, 0, 1, 5}, sample.Extremes()) {
 				wantTouch(t, "no spans", 0, 0, l, from, to)
 			}
 		}
@@ -598,7 +579,7 @@ func TestP1302TouchOfMany(t *testing.T) {
 // P1301, P1302: the calls beside each other.
 
 func TestP1301WhatCutAnswersIsWholeAndJoined(t *testing.T) {
-	for _, b := range slices.Concat(sample.Lengths()[:600], sample.Blocks(), []string{each(), sample.Bytes(4096)}) {
+	for _, b := range slices.Concat(sample.Lengths()[:600], sample.Blocks(), []string{sample.Each(), sample.Bytes(4096)}) {
 		for _, n := range []int{1, 2, 3, 32, 63, 64, 65, len(b) / 2, len(b) - 1, len(b), len(b) + 1, math.MaxInt} {
 			if n < 1 {
 				continue

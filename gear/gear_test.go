@@ -20,13 +20,7 @@ func starts() []uint64 {
 }
 
 // each tells every byte that there is.
-func each() []byte {
-	l := make([]byte, 256)
-	for k := range l {
-		l[k] = byte(k)
-	}
-	return l
-}
+func each() []byte { return []byte(sample.Each()) }
 
 // worked tells the number of b, worked out in whole numbers without an end.
 func worked(b byte) uint64 {

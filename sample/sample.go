@@ -62,6 +62,25 @@ func Cuts(b string) [][]string {
 	return l
 }
 
+// Each tells every byte that there is.
+func Each() string {
+	b := make([]byte, 256)
+	for k := range b {
+		b[k] = byte(k)
+	}
+	return string(b)
+}
+
+// Nothing tells lists of texts that have no bytes.
+func Nothing() [][]string {
+	return [][]string{nil, {}, {""}, {"", ""}, make([]string, 300), make([]string, 0, 5)}
+}
+
+// Extremes tells the ints at either end.
+func Extremes() []int {
+	return []int{math.MinInt, math.MinInt + 1, math.MaxInt - 1, math.MaxInt}
+}
+
 // Single tells each byte of b in a text of its own.
 func Single(b string) []string {
 	l := make([]string, len(b))
