@@ -84,18 +84,7 @@ func cuts(r cdc.Rule, s string) []api.Span {
 		l = append(l, n)
 		at += n
 	}
-	return pieces(l...)
-}
-
-// pieces tells the spans of pieces of so many bytes, one behind the other.
-func pieces(lengths ...int) []api.Span {
-	var l []api.Span
-	at := 0
-	for _, n := range lengths {
-		l = append(l, api.Span{From: at, To: at + n})
-		at += n
-	}
-	return l
+	return sample.Pieces(l...)
 }
 
 // moved tells spans by bytes further on.
@@ -527,21 +516,21 @@ func TestP1401FirstOfAWrongRule(t *testing.T) {
 
 func TestP1402Cut(t *testing.T) {
 	d := cdc.Default()
-	wantCut(t, "1,000 bytes", pieces(52, 128, 70, 66, 45, 128, 51, 113, 91, 61, 82, 75, 38), d, sample.Bytes(1000))
-	wantCut(t, "1,200 bytes", pieces(70, 71, 126, 66, 42, 84, 96, 69, 100, 105, 49, 86, 37, 36, 52, 48, 63), d, sample.Bytes(1200))
-	wantCut(t, "each byte", pieces(88, 36, 70, 62), d, sample.Each())
-	wantCut(t, "each byte, four times", pieces(88, 36, 70, 65, 85, 36, 70, 65, 85, 36, 70, 65, 85, 36, 70, 62), d, sample.Each(), sample.Each(), sample.Each(), sample.Each())
-	wantCut(t, "alike", pieces(128, 128, 44), d, strings.Repeat("a", 300))
-	wantCut(t, "alike, behind the place Min", pieces(33, 33, 33, 1), d, strings.Repeat("u", 100))
-	wantCut(t, "small pieces", pieces(10, 2, 3, 3, 15, 10, 10, 9, 9, 2, 12, 10, 5), rule(1, 8, 30, 4, 2), sample.Bytes(100))
-	wantCut(t, "pieces ahead of Mid", pieces(11, 13, 19, 26, 23, 8), rule(10, 40, 50, 3, 20), sample.Bytes(100))
-	wantCut(t, "Hard 0", pieces(3, 3, 3, 1), rule(2, 6, 9, 0, 20), sample.Bytes(10))
-	wantCut(t, "Soft 0", pieces(7, 7, 2), rule(2, 6, 9, 20, 0), sample.Bytes(100)[84:])
-	wantCut(t, "twenty bits", pieces(9, 9, 9, 9, 9, 9, 9, 9, 9, 9, 9, 1), rule(2, 6, 9, 20, 20), sample.Bytes(100))
-	wantCut(t, "one length", pieces(5, 5, 5, 5, 4), rule(5, 5, 5, 3, 3), sample.Bytes(24))
-	wantCut(t, "byte by byte", pieces(1, 1, 1), rule(1, 1, 1, 0, 0), "abc")
+	wantCut(t, "1,000 bytes", sample.Pieces(52, 128, 70, 66, 45, 128, 51, 113, 91, 61, 82, 75, 38), d, sample.Bytes(1000))
+	wantCut(t, "1,200 bytes", sample.Pieces(70, 71, 126, 66, 42, 84, 96, 69, 100, 105, 49, 86, 37, 36, 52, 48, 63), d, sample.Bytes(1200))
+	wantCut(t, "each byte", sample.Pieces(88, 36, 70, 62), d, sample.Each())
+	wantCut(t, "each byte, four times", sample.Pieces(88, 36, 70, 65, 85, 36, 70, 65, 85, 36, 70, 65, 85, 36, 70, 62), d, sample.Each(), sample.Each(), sample.Each(), sample.Each())
+	wantCut(t, "alike", sample.Pieces(128, 128, 44), d, strings.Repeat("a", 300))
+	wantCut(t, "alike, behind the place Min", sample.Pieces(33, 33, 33, 1), d, strings.Repeat("u", 100))
+	wantCut(t, "small pieces", sample.Pieces(10, 2, 3, 3, 15, 10, 10, 9, 9, 2, 12, 10, 5), rule(1, 8, 30, 4, 2), sample.Bytes(100))
+	wantCut(t, "pieces ahead of Mid", sample.Pieces(11, 13, 19, 26, 23, 8), rule(10, 40, 50, 3, 20), sample.Bytes(100))
+	wantCut(t, "Hard 0", sample.Pieces(3, 3, 3, 1), rule(2, 6, 9, 0, 20), sample.Bytes(10))
+	wantCut(t, "Soft 0", sample.Pieces(7, 7, 2), rule(2, 6, 9, 20, 0), sample.Bytes(100)[84:])
+	wantCut(t, "twenty bits", sample.Pieces(9, 9, 9, 9, 9, 9, 9, 9, 9, 9, 9, 1), rule(2, 6, 9, 20, 20), sample.Bytes(100))
+	wantCut(t, "one length", sample.Pieces(5, 5, 5, 5, 4), rule(5, 5, 5, 3, 3), sample.Bytes(24))
+	wantCut(t, "byte by byte", sample.Pieces(1, 1, 1), rule(1, 1, 1, 0, 0), "abc")
 	long := []int{614, 2359, 2597, 2911, 237, 4096, 4096, 2621, 2734, 2124, 891, 1731, 735, 847, 806, 271, 2856, 2134, 1029, 2202, 412, 3414, 1363, 539, 281, 3176, 923, 1453, 1065, 3306, 889, 246, 2525, 2076, 905, 3108, 1964}
-	wantCut(t, "many bytes", pieces(long...), rule(1, 2048, 4096, 12, 10), sample.Bytes(65536))
+	wantCut(t, "many bytes", sample.Pieces(long...), rule(1, 2048, 4096, 12, 10), sample.Bytes(65536))
 }
 
 func TestP1402CutOfNoBytes(t *testing.T) {
@@ -560,9 +549,9 @@ func TestP1402CutOfUpToMinBytes(t *testing.T) {
 				continue
 			}
 			s := sample.Bytes(n)
-			wantCut(t, "one piece", pieces(n), r, s)
-			wantCut(t, "one piece, in two texts", pieces(n), r, s[:n/2], s[n/2:])
-			wantCut(t, "one piece, byte by byte", pieces(n), r, sample.Single(s)...)
+			wantCut(t, "one piece", sample.Pieces(n), r, s)
+			wantCut(t, "one piece, in two texts", sample.Pieces(n), r, s[:n/2], s[n/2:])
+			wantCut(t, "one piece, byte by byte", sample.Pieces(n), r, sample.Single(s)...)
 		}
 	}
 }
@@ -590,7 +579,7 @@ func TestP1402CutIsFirstAndFirstOfWhatIsLeft(t *testing.T) {
 				l = append(l, n)
 				at += n
 			}
-			wantCut(t, "First by First", pieces(l...), r, s)
+			wantCut(t, "First by First", sample.Pieces(l...), r, s)
 		}
 	}
 }
@@ -640,22 +629,22 @@ func TestP1402CutByteByByte(t *testing.T) {
 
 func TestP1402CutCutsNothingBetweenTexts(t *testing.T) {
 	s := endless(t, cdc.Default(), 128)
-	wantCut(t, "one piece in many texts", pieces(128), cdc.Default(), s[:32], s[32:33], s[33:64], s[64:65], s[65:128])
-	wantCut(t, "texts of one piece each, which are one", pieces(24), cdc.Default(), "abcdefgh", "abcdefgh", "abcdefgh")
+	wantCut(t, "one piece in many texts", sample.Pieces(128), cdc.Default(), s[:32], s[32:33], s[33:64], s[64:65], s[65:128])
+	wantCut(t, "texts of one piece each, which are one", sample.Pieces(24), cdc.Default(), "abcdefgh", "abcdefgh", "abcdefgh")
 	l := []string{"ab", "c", "\xff\x80", "\u20ac", "\x00", strings.Repeat("u", 90)}
 	wantCut(t, "bytes, not runes", cuts(cdc.Default(), strings.Join(l, "")), cdc.Default(), l...)
-	wantCut(t, "no runes", pieces(1, 1, 1, 1, 1), rule(1, 1, 1, 0, 0), "\u20ac", "\xff\x80")
+	wantCut(t, "no runes", sample.Pieces(1, 1, 1, 1, 1), rule(1, 1, 1, 0, 0), "\u20ac", "\xff\x80")
 }
 
 func TestP1402CutOfAWrongRule(t *testing.T) {
 	for _, r := range wrongs() {
 		for _, n := range []int{1, 2, 3, 32, 33, 128, 129, 4096, 4097, 9000} {
 			s := sample.Bytes(n)
-			wantCut(t, "all of it", pieces(n), r, s)
-			wantCut(t, "all of it, in three texts", pieces(n), r, s[:n/3], s[n/3:n/2], s[n/2:])
-			wantCut(t, "all of it, empty ones beside it", pieces(n), r, "", s, "", "")
+			wantCut(t, "all of it", sample.Pieces(n), r, s)
+			wantCut(t, "all of it, in three texts", sample.Pieces(n), r, s[:n/3], s[n/3:n/2], s[n/2:])
+			wantCut(t, "all of it, empty ones beside it", sample.Pieces(n), r, "", s, "", "")
 		}
-		wantCut(t, "byte by byte", pieces(300), r, sample.Single(sample.Bytes(300))...)
+		wantCut(t, "byte by byte", sample.Pieces(300), r, sample.Single(sample.Bytes(300))...)
 	}
 }
 
@@ -690,14 +679,14 @@ func TestP1403APieceByItselfIsOne(t *testing.T) {
 			l := r.Cut(s)
 			for k, x := range l[:min(len(l), 60)] {
 				p := s[x.From:x.To]
-				wantCut(t, "a piece by itself", pieces(len(p)), r, p)
+				wantCut(t, "a piece by itself", sample.Pieces(len(p)), r, p)
 				wantFirst(t, "a piece by itself", len(p), r, p)
 				if k == len(l)-1 { // it may end because nothing is behind it
 					continue
 				}
 				for _, tail := range tails()[:7] {
 					wantFirst(t, "a piece, and another text", len(p), r, p+tail)
-					wantCut(t, "a piece, and another text", slices.Concat(pieces(len(p)), moved(len(p), r.Cut(tail))), r, p, tail)
+					wantCut(t, "a piece, and another text", slices.Concat(sample.Pieces(len(p)), moved(len(p), r.Cut(tail))), r, p, tail)
 				}
 			}
 		}
@@ -805,7 +794,7 @@ func TestP1402KeepsWhatWasHandedIn(t *testing.T) {
 
 func TestP1402AnswersAreTheirOwn(t *testing.T) {
 	d, l := cdc.Default(), []string{sample.Bytes(1000)[:300], sample.Bytes(1000)[300:]}
-	want := pieces(52, 128, 70, 66, 45, 128, 51, 113, 91, 61, 82, 75, 38)
+	want := sample.Pieces(52, 128, 70, 66, 45, 128, 51, 113, 91, 61, 82, 75, 38)
 	one, two := d.Cut(l...), d.Cut(l...)
 	one[0], one[12] = api.Span{From: 7, To: 7}, api.Span{From: 9, To: 9}
 	_ = append(one[:1], api.Span{From: 5, To: 5})

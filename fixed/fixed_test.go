@@ -50,16 +50,6 @@ func wholes(n int) [][]api.Span {
 	return l
 }
 
-// below tells numbers of bytes that no piece has.
-func below() []int {
-	return []int{0, -1, -2, -3, -64, -256, -1 << 16, -1 << 31, -1 << 32, -1<<32 + 4, math.MinInt32, math.MinInt, math.MinInt + 1, math.MinInt + 4}
-}
-
-// great tells numbers of bytes above those of any text here.
-func great() []int {
-	return []int{1 << 21, 1 << 31, 1 << 32, 1<<32 + 1, 1<<32 + 4, math.MaxInt32, math.MaxInt / 2, math.MaxInt/2 + 1, math.MaxInt - 1, math.MaxInt}
-}
-
 // wantCut asks that Cut answers want.
 func wantCut(t *testing.T, what string, want []api.Span, n int, l ...string) {
 	t.Helper()
@@ -125,7 +115,7 @@ func TestP1301Cut(t *testing.T) {
 
 func TestP1301CutOfNoBytes(t *testing.T) {
 	for _, l := range sample.Nothing() {
-		for _, n := range slices.Concat([]int{1, 2, 3, 4, 64, 1200}, below(), great()) {
+		for _, n := range slices.Concat([]int{1, 2, 3, 4, 64, 1200}, sample.Below(), sample.Great()) {
 			wantCut(t, "no bytes", nil, n, l...)
 		}
 	}
@@ -133,7 +123,7 @@ func TestP1301CutOfNoBytes(t *testing.T) {
 }
 
 func TestP1301CutByNBelowOne(t *testing.T) {
-	for _, n := range below() {
+	for _, n := range sample.Below() {
 		wantCut(t, "a byte", nil, n, "a")
 		wantCut(t, "bytes", nil, n, "abc")
 		wantCut(t, "texts", nil, n, "abc", "", "de")
@@ -142,7 +132,7 @@ func TestP1301CutByNBelowOne(t *testing.T) {
 }
 
 func TestP1301CutByAGreatN(t *testing.T) {
-	for _, n := range great() {
+	for _, n := range sample.Great() {
 		for _, size := range []int{1, 2, 3, 64, 257, 1<<20 + 63} {
 			b := sample.Bytes(size)
 			wantCut(t, "one text", spans(0, size), n, b)

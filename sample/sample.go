@@ -81,6 +81,27 @@ func Extremes() []int {
 	return []int{math.MinInt, math.MinInt + 1, math.MaxInt - 1, math.MaxInt}
 }
 
+// Below tells numbers of bytes that no piece has.
+func Below() []int {
+	return []int{0, -1, -2, -3, -64, -256, -1 << 16, -1 << 31, -1 << 32, -1<<32 + 4, math.MinInt32, math.MinInt, math.MinInt + 1, math.MinInt + 4}
+}
+
+// Great tells numbers of bytes above those of any text of up to 2^21 of them.
+func Great() []int {
+	return []int{1 << 21, 1 << 31, 1 << 32, 1<<32 + 1, 1<<32 + 4, math.MaxInt32, math.MaxInt / 2, math.MaxInt/2 + 1, math.MaxInt - 1, math.MaxInt}
+}
+
+// Pieces tells the spans of pieces of so many bytes, one behind the other.
+func Pieces(lengths ...int) []api.Span {
+	var l []api.Span
+	at := 0
+	for _, n := range lengths {
+		l = append(l, api.Span{From: at, To: at + n})
+		at += n
+	}
+	return l
+}
+
 // Single tells each byte of b in a text of its own.
 func Single(b string) []string {
 	l := make([]string, len(b))
