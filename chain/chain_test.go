@@ -11,6 +11,7 @@ import (
 	"masonry/chain"
 	"masonry/crc"
 	"masonry/desk"
+	"masonry/desks"
 	"masonry/disk"
 	"masonry/sample"
 	"masonry/witness"
@@ -26,33 +27,14 @@ const (
 )
 
 var (
-	made, broken, kept  = witness.Made, witness.Broken, witness.Kept
+	broken, kept        = witness.Broken, witness.Kept
 	want, wantGet       = witness.Want, witness.WantGet
 	wantUsed, wantDirty = witness.WantUsed, witness.WantDirty
 	upTo, outside       = sample.UpTo, sample.Outside
 	bytes, choices      = sample.Bytes, sample.Choices
+	formatted, opened   = desks.Formatted, desks.Opened
+	open                = desks.Open
 )
-
-// formatted tells a new disk of n sectors, and the Desk that Format made on it.
-func formatted(t *testing.T, n int) (*disk.Disk, *desk.Desk) {
-	t.Helper()
-	d := made(t, n)
-	k, e := desk.Format(d)
-	if k == nil || e != api.OK {
-		t.Fatalf("Format: %v, %d", k, e)
-	}
-	return d, k
-}
-
-// opened tells the Desk of a disk.
-func opened(t *testing.T, d *disk.Disk) *desk.Desk {
-	t.Helper()
-	k, e := desk.Open(d)
-	if k == nil || e != api.OK {
-		t.Fatalf("Open: %v, %d", k, e)
-	}
-	return k
-}
 
 // down tells the numbers from and on, back to the one to.
 func down(from, to int) []int {
@@ -473,7 +455,7 @@ func TestP1201NoSector(t *testing.T) {
 		no := []string{sample.Full(0), sample.Full('j'), sample.Full(255), bytes(api.Sector), room, plain, s[1:] + s[:1]}
 		for at := range api.Sector {
 			for _, by := range []byte{1, 128, 255} {
-				no = append(no, s[:at]+string([]byte{s[at] ^ by})+s[at+1:])
+				no = append(no, sample.Changed(s, at, by))
 			}
 		}
 		for _, b := range no {
@@ -674,12 +656,8 @@ func TestP1201GetLaid(t *testing.T) {
 func wantBeyond(t *testing.T, d *disk.Disk, k *desk.Desk, at, n int) {
 	t.Helper()
 	kept(t, "beyond", d, k, func() {
-		for _, past := range []int{1, 2, 255, 5536, 65536, 1 << 32, 1<<62 + 1} {
-			wantRefs(t, "above 60,000", k, at, 60000-n+past, 0, api.ErrRange)
-			wantRefs(t, "below 0", k, at, -n-past, 0, api.ErrRange)
-		}
-		for _, by := range []int{math.MaxInt, math.MaxInt - 1, math.MaxInt - 60000, math.MinInt, math.MinInt + 1, math.MinInt + 60000, 1 << 62, -1 << 62} {
-			wantRefs(t, "far beyond", k, at, by, 0, api.ErrRange)
+		for _, by := range sample.Beyond(n) {
+			wantRefs(t, "beyond", k, at, by, 0, api.ErrRange)
 		}
 	})
 }
@@ -694,7 +672,7 @@ func TestP1203Refs(t *testing.T) {
 		c := chain.Chain{Gen: 2, Tag: 44, Refs: 1, Data: bytes(n)}
 		at := places[0]
 		wantBeyond(t, d, k, at, 1)
-		for _, by := range []int{0, 1, -1, 5, -3, -3, 1, -1, 255, 1, 300, 59444, 0, -59999, -1, 60000, -60000, 59999, 1, -1, 1} {
+		for _, by := range sample.Uses() {
 			c.Refs += by
 			wantRefs(t, "Refs", k, at, by, c.Refs, api.OK)
 			wantChain(t, "Refs", k, c, places...)
@@ -964,12 +942,6 @@ func worked(t *testing.T, d *disk.Disk) *desk.Desk {
 	return k
 }
 
-// open opens a disk, and tells the error.
-func open(d *disk.Disk) api.Errno {
-	_, e := desk.Open(d)
-	return e
-}
-
 // TestP1203Power lets the power go at each act of a Sync: opened again the disk has all that was done to its chains, or nothing.
 func TestP1203Power(t *testing.T) {
 	first, k := formatted(t, api.Least)
@@ -1078,49 +1050,27 @@ func judge(at int, l map[int]link) (c chain.Chain, places []int, e api.Errno) {
 	return c, places, api.OK
 }
 
-// draw tells numbers that look like nothing in particular.
-type draw uint32
-
-// below tells the next number.
-func (r *draw) below(n int) int {
-	*r = *r*1664525 + 1013904223
-	return int(*r>>8) % n
-}
-
-// one tells one of l.
-func (r *draw) one(l ...int) int { return l[r.below(len(l))] }
-
-// shuffled tells the places in some order.
-func (r *draw) shuffled(places []int) []int {
-	l := slices.Clone(places)
-	for n := range l {
-		m := n + r.below(len(l)-n)
-		l[n], l[m] = l[m], l[n]
-	}
-	return l
-}
-
 // turn changes something of a link.
-func (r *draw) turn(x link) link {
-	switch r.below(10) {
+func turn(r *sample.Draw, x link) link {
+	switch r.Below(10) {
 	case 0:
-		x.kind = r.one(0, 1, 2, 3, 6, 255)
+		x.kind = r.One(0, 1, 2, 3, 6, 255)
 	case 1:
-		x.gen = r.one(0, 1, 2, 3, 4, 255)
+		x.gen = r.One(0, 1, 2, 3, 4, 255)
 	case 2:
-		x.tag = r.one(0, 1, 199, 200, 201, 255)
+		x.tag = r.One(0, 1, 199, 200, 201, 255)
 	case 3:
-		x.number = r.one(0, 1, 2, 3, 4, 39, 40, 255)
+		x.number = r.One(0, 1, 2, 3, 4, 39, 40, 255)
 	case 4:
-		x.refs = r.one(0, 0, 1, 2, 256, 60000)
+		x.refs = r.One(0, 0, 1, 2, 256, 60000)
 	case 5, 6:
-		x.next = r.one(0, 0, 1, 2, 3, 4, 5, 6, 7, 8, 9, 10, 11, 12)
+		x.next = r.One(0, 0, 1, 2, 3, 4, 5, 6, 7, 8, 9, 10, 11, 12)
 	case 7:
-		x.size = r.one(0, 1, 235, 236, 237, 242)
+		x.size = r.One(0, 1, 235, 236, 237, 242)
 	case 8:
-		x = x.with(bytes(r.one(0, 1, 2, 235, 236, 237, 242)))
+		x = x.with(bytes(r.One(0, 1, 2, 235, 236, 237, 242)))
 	case 9:
-		x.data = x.room()[:r.one(0, 1, 235, 236, 241)] + string([]byte{byte(r.below(3))})
+		x.data = x.room()[:r.One(0, 1, 235, 236, 241)] + string([]byte{byte(r.Below(3))})
 	}
 	return x
 }
@@ -1129,22 +1079,22 @@ func (r *draw) turn(x link) link {
 func TestP1201Judged(t *testing.T) {
 	d, k := formatted(t, api.Least)
 	want(t, "Keep", api.OK, k.Keep(upTo(2, 11)...))
-	r := draw(7)
+	r := sample.Draw(7)
 	good := 0
 	for i := range 6000 {
 		l := map[int]link{}
-		order := r.shuffled(upTo(2, 11))
+		order := r.Shuffled(upTo(2, 11))
 		for len(order) > 0 {
-			n := min(len(order), 1+r.below(5))
-			size := n*part - r.one(0, 0, 1, 100, 235)
-			for m, x := range links(chain.Chain{Gen: 1 + r.below(3), Tag: r.below(3), Refs: r.below(4), Data: bytes(size)}, order[:n]...) {
+			n := min(len(order), 1+r.Below(5))
+			size := n*part - r.One(0, 0, 1, 100, 235)
+			for m, x := range links(chain.Chain{Gen: 1 + r.Below(3), Tag: r.Below(3), Refs: r.Below(4), Data: bytes(size)}, order[:n]...) {
 				l[order[m]] = x
 			}
 			order = order[n:]
 		}
-		for range r.below(6) {
-			at := 2 + r.below(9)
-			l[at] = r.turn(l[at])
+		for range r.Below(6) {
+			at := 2 + r.Below(9)
+			l[at] = turn(&r, l[at])
 		}
 		for at, x := range l {
 			want(t, "Set", api.OK, k.Set(at, x.sector()))
@@ -1237,15 +1187,15 @@ type run struct {
 	d           *disk.Disk
 	k           *desk.Desk
 	now, synced kepts
-	draw
+	sample.Draw
 }
 
 // put puts something, now and then what can't be put.
 func (r *run) put() {
-	n := r.one(0, 1, 235, 236, 237, 472, 473, r.below(3000), r.below(10000), longs, longs+1)
-	c := chain.Chain{Gen: 1 + r.below(3), Tag: r.below(201), Refs: 1, Data: bytes(n)}
-	if r.below(20) == 0 {
-		c.Gen, c.Tag = r.one(0, 1, 3, 4), r.one(-1, 0, 200, 201)
+	n := r.One(0, 1, 235, 236, 237, 472, 473, r.Below(3000), r.Below(10000), longs, longs+1)
+	c := chain.Chain{Gen: 1 + r.Below(3), Tag: r.Below(201), Refs: 1, Data: bytes(n)}
+	if r.Below(20) == 0 {
+		c.Gen, c.Tag = r.One(0, 1, 3, 4), r.One(-1, 0, 200, 201)
 	}
 	at, e := chain.Put(r.k, c.Gen, c.Tag, c.Data)
 	at2, e2 := r.now.put(c)
@@ -1257,7 +1207,7 @@ func (r *run) put() {
 // use uses a chain more, or less.
 func (r *run) use(at int) {
 	c := r.now.chains[at]
-	by := r.one(1, -1, 2, -2, 1000, -1000, 60000-c.Refs, 60001-c.Refs, -c.Refs-1)
+	by := r.One(1, -1, 2, -2, 1000, -1000, 60000-c.Refs, 60001-c.Refs, -c.Refs-1)
 	n, e := c.Refs+by, api.OK
 	if n < 0 || n > 60000 {
 		n, e = 0, api.ErrRange
@@ -1270,26 +1220,12 @@ func (r *run) use(at int) {
 
 // sync lets the power go in a Sync now and then; the disk is opened again.
 func (r *run) sync() {
-	if r.below(2) == 0 {
-		r.d.Arm(r.below(120), r.below(2), r.below(2), r.below(2))
-	}
-	e := r.k.Sync()
-	r.d.Arm(-1)
-	switch e {
-	case api.OK:
-		r.synced = r.now.copyOf()
-		return
-	case api.ErrLarge:
-		r.k = opened(r.t, r.d) // all that is not synced is gone
-		r.now = r.synced.copyOf()
-		return
-	}
-	r.d.Restore()
-	r.k = opened(r.t, r.d)
-	if r.same(r.now) {
+	k, e := desks.Sync(r.t, r.d, r.k, &r.Draw)
+	r.k = k
+	if e == api.OK || e == api.ErrOff && r.same(r.now) {
 		r.synced = r.now.copyOf()
 	} else {
-		r.now = r.synced.copyOf()
+		r.now = r.synced.copyOf() // all that is not synced is gone
 	}
 }
 
@@ -1306,20 +1242,20 @@ func (r *run) same(m kepts) bool {
 // step does something, and asks for the same of the Desk and of the lists.
 func (r *run) step() {
 	l := r.now.firsts()
-	switch n := r.below(12); {
+	switch n := r.Below(12); {
 	case n < 4 || len(l) == 0:
 		r.put()
 	case n < 7:
-		r.use(r.one(l...))
+		r.use(r.One(l...))
 	case n < 9:
-		at := r.one(l...)
+		at := r.One(l...)
 		want(r.t, "Drop", api.OK, chain.Drop(r.k, at))
 		delete(r.now.chains, at)
 		delete(r.now.places, at)
 	case n < 10:
 		m, was := r.k.Mark(), r.now.copyOf()
 		r.put()
-		r.use(r.one(l...))
+		r.use(r.One(l...))
 		want(r.t, "Drop", api.OK, chain.Drop(r.k, l[0]))
 		r.k.Back(m)
 		r.now = was
@@ -1332,7 +1268,7 @@ func TestP1201ToP1203Run(t *testing.T) {
 	for _, n := range []int{api.Least, 170, 300} {
 		d, k := formatted(t, n)
 		m := kepts{map[int]chain.Chain{}, map[int][]int{}, n - 111}
-		r := &run{t, d, k, m, m.copyOf(), draw(n)}
+		r := &run{t, d, k, m, m.copyOf(), sample.Draw(n)}
 		for i := range 2000 {
 			r.step()
 			wantUsed(t, "run", r.k, r.now.used()...)

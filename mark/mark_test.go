@@ -75,13 +75,6 @@ func bytesOf(p api.Print) string {
 	return string([]byte{byte(p.Kind)}) + p.Sum + strings.Repeat("\x00", 32-len(p.Sum))
 }
 
-// changed tells b with the byte at k exclusive or by.
-func changed(b string, k int, by byte) string {
-	l := []byte(b)
-	l[k] ^= by
-	return string(l)
-}
-
 // wantOf asks that Of l is the print of want, of each kind.
 func wantOf(t *testing.T, what, want string, l ...string) {
 	t.Helper()
@@ -307,7 +300,7 @@ func TestP601ReadBytesBehindAShortPrint(t *testing.T) {
 		b := bytesOf(p)
 		for k := 21; k < 33; k++ {
 			for by := 1; by < 256; by++ {
-				wantReadFault(t, "a byte behind", api.ErrForm, changed(b, k, byte(by)))
+				wantReadFault(t, "a byte behind", api.ErrForm, sample.Changed(b, k, byte(by)))
 			}
 		}
 		wantReadFault(t, "bytes behind", api.ErrForm, b[:21]+strings.Repeat("\xff", 12))
@@ -320,8 +313,8 @@ func TestP601ReadEachByteCounts(t *testing.T) {
 		b := bytesOf(p)
 		for k := range len(p.Sum) {
 			for _, by := range []byte{1, 128, 255} {
-				want := api.Print{Kind: p.Kind, Sum: changed(p.Sum, k, by)}
-				wantRead(t, "a byte changed", want, changed(b, k+1, by))
+				want := api.Print{Kind: p.Kind, Sum: sample.Changed(p.Sum, k, by)}
+				wantRead(t, "a byte changed", want, sample.Changed(b, k+1, by))
 			}
 		}
 	}

@@ -3,6 +3,7 @@ package sample
 
 import (
 	"math"
+	"slices"
 	"strings"
 
 	"masonry/api"
@@ -79,6 +80,20 @@ func Nothing() [][]string {
 // Extremes tells the ints at either end.
 func Extremes() []int {
 	return []int{math.MinInt, math.MinInt + 1, math.MaxInt - 1, math.MaxInt}
+}
+
+// Uses tells by how many what is used once is used more, or less, one behind the other, up to 60,000 times at last.
+func Uses() []int {
+	return []int{0, 1, -1, 5, -3, -3, 1, -1, 255, 1, 300, 59444, 0, -59999, -1, 60000, -60000, 59999, 1, -1, 1}
+}
+
+// Beyond tells what is too many more, or too many fewer, uses of what is used n times.
+func Beyond(n int) []int {
+	l := Extremes()
+	for _, past := range []int{1, 2, 255, 5536, 65536, 1 << 32, 1<<62 + 1} {
+		l = append(l, 60000-n+past, -n-past)
+	}
+	return append(l, math.MaxInt-60000, math.MinInt+60000, 1<<62, -1<<62)
 }
 
 // Below tells numbers of bytes that no piece has.
@@ -165,6 +180,35 @@ func Somes(n int) [][]int {
 		for m, keep := range []int{0, 1, k & 1, 1 - k&1, k * k % 7, k / (n/2 + 1)} {
 			l[m] = append(l[m], keep)
 		}
+	}
+	return l
+}
+
+// Changed tells b with the byte at k exclusive or by.
+func Changed(b string, k int, by byte) string {
+	l := []byte(b)
+	l[k] ^= by
+	return string(l)
+}
+
+// Draw tells numbers that look like nothing in particular, one behind the other.
+type Draw uint32
+
+// Below tells the next number, below n.
+func (r *Draw) Below(n int) int {
+	*r = *r*1664525 + 1013904223
+	return int(*r>>8) % n
+}
+
+// One tells one of l.
+func (r *Draw) One(l ...int) int { return l[r.Below(len(l))] }
+
+// Shuffled tells numbers in some order.
+func (r *Draw) Shuffled(l []int) []int {
+	l = slices.Clone(l)
+	for n := range l {
+		m := n + r.Below(len(l)-n)
+		l[n], l[m] = l[m], l[n]
 	}
 	return l
 }
