@@ -8,9 +8,7 @@ import (
 	"masonry/api"
 	"masonry/bucket"
 	"masonry/chain"
-	"masonry/crc"
 	"masonry/desk"
-	"masonry/desks"
 	"masonry/entries"
 	"masonry/sample"
 )
@@ -49,20 +47,12 @@ func (x *rough) put(t *testing.T, k *desk.Desk) int {
 	for _, b := range x.buckets {
 		place := max(b.place, 0)
 		if b.place == 0 {
-			place = putChain(t, k, b.gen, b.tag, b.data)
+			place = entries.PutChain(t, k, b.gen, b.tag, b.data)
 		}
 		places = append(places, place)
 	}
 	data := low(x.count) + low(places...) + x.behind
-	return putChain(t, k, x.gen, x.tag, data[:len(data)-x.cut])
-}
-
-// putChain puts a chain; its place.
-func putChain(t *testing.T, k *desk.Desk, gen, tag int, data string) int {
-	t.Helper()
-	at, e := chain.Put(k, gen, tag, data)
-	want(t, "chain.Put", api.OK, e)
-	return at
+	return entries.PutChain(t, k, x.gen, x.tag, data[:len(data)-x.cut])
 }
 
 // lists tells the entries of tables of one bucket and of several, some of them empty, some of more than one sector; each of them has an entry of either kind in its first bucket, and at least two.
@@ -136,10 +126,10 @@ func TestP1702BrokenRoot(t *testing.T) {
 	}
 	h := table.Empty(t, 200, 1)
 	for _, n := range []int{1501, 1504} { // with as many buckets as they would have
-		h.Nothing("above 1,500", putChain(t, h.Desk, 1, 3, low(n)+strings.Repeat("\x00", 2*376)), api.ErrBroken)
+		h.Nothing("above 1,500", entries.PutChain(t, h.Desk, 1, 3, low(n)+strings.Repeat("\x00", 2*376)), api.ErrBroken)
 	}
-	h.Nothing("of none", putChain(t, h.Desk, 1, 3, "\x00\x00\x00\x00"), api.ErrBroken)
-	h.Nothing("of none", putChain(t, h.Desk, 1, 3, "\x00\x00"), api.ErrBroken)
+	h.Nothing("of none", entries.PutChain(t, h.Desk, 1, 3, "\x00\x00\x00\x00"), api.ErrBroken)
+	h.Nothing("of none", entries.PutChain(t, h.Desk, 1, 3, "\x00\x00"), api.ErrBroken)
 }
 
 // firstChanges tells what makes the first bucket of a table none.
@@ -187,23 +177,7 @@ func firstChanges(x *rough) []change {
 }
 
 // layAgain lays the entries of bytes in their order.
-func layAgain(data string) string { return lay(entries.Sorted(readAll(data)...)...) }
-
-// readAll tells the entries of bytes; of what is no print it tells one with a kind that is none.
-func readAll(data string) []api.Entry {
-	var l []api.Entry
-	for ; len(data) >= 35; data = data[35:] {
-		p := api.Print{Kind: int(data[0]), Sum: data[1:33]}
-		if p.Kind == 1 {
-			p.Sum = data[1:21]
-			if strings.Trim(data[21:33], "\x00") != "" {
-				p.Kind = 0
-			}
-		}
-		l = append(l, api.Entry{Print: p, At: int(data[33]) + 256*int(data[34])})
-	}
-	return l
-}
+func layAgain(data string) string { return lay(entries.Sorted(entries.ReadAll(data)...)...) }
 
 func TestP1702BrokenBucket(t *testing.T) {
 	for gen := 1; gen <= 3; gen++ {
@@ -211,7 +185,7 @@ func TestP1702BrokenBucket(t *testing.T) {
 			for _, c := range firstChanges(good(gen, l)) {
 				h := table.Empty(t, api.Least, gen)
 				x := good(gen, l)
-				had := readAll(x.buckets[0].data)
+				had := entries.ReadAll(x.buckets[0].data)
 				c.do(x)
 				h.Root = x.put(t, h.Desk)
 				wantUnsound(t, c.what, h, had...)
@@ -304,7 +278,7 @@ func TestP1702BrokenPlaces(t *testing.T) {
 	for gen := 1; gen <= 3; gen++ {
 		for _, l := range lists() {
 			h := table.Empty(t, api.Least, gen)
-			junk := putChain(t, h.Desk, gen, 3, lay(l...))
+			junk := entries.PutChain(t, h.Desk, gen, 3, lay(l...))
 			root := good(gen, l).put(t, h.Desk)
 			places := places(t, h.Desk, root)
 			free := 28
@@ -380,54 +354,6 @@ func TestP1702OtherForm(t *testing.T) {
 	}
 }
 
-// TestP1702Spoilt spoils bytes of each sector of a table, on the desk and on the disk.
-func TestP1702Spoilt(t *testing.T) {
-	for gen, l := range lists() {
-		gen = 1 + gen%3
-		h := table.With(t, api.Least, gen, l...)
-		want(t, "Sync", api.OK, h.Desk.Sync())
-		sectors, _ := bucket.Sectors(h.Desk, h.Root)
-		m := h.Desk.Mark()
-		for _, at := range sectors {
-			s, _ := h.Desk.Get(at)
-			for n := range api.Sector {
-				b := sample.Changed(s, n, []byte{1, 128, 255}[n%3])
-				want(t, "Set", api.OK, h.Desk.Set(at, b))
-				kept(t, "spoilt", h.Disk, h.Desk, func() { h.WantNoList("spoilt", h.Root, api.ErrBroken) })
-				if at == h.Root && n%8 == 0 {
-					h.Nothing("a root that is spoilt", h.Root, api.ErrBroken)
-				}
-				if n%16 == 0 {
-					c := h.Disk.Twin()
-					want(t, "disk.Write", api.OK, c.Write(api.Write{At: 111 + at, Data: b}))
-					x := *h
-					x.Disk, x.Desk = c, desks.Opened(t, c)
-					x.WantNoList("spoilt on the disk", h.Root, api.ErrBroken)
-				}
-			}
-			h.Desk.Back(m)
-		}
-		h.Look("good again")
-		for _, at := range sectors {
-			want(t, "Drop", api.OK, h.Desk.Drop(at))
-			other, e := h.Desk.New(sample.Full(0))
-			want(t, "New", api.OK, e)
-			if other == at {
-				h.WantNoList("a sector that is another one's", h.Root, api.ErrBroken)
-			}
-			h.Desk.Back(m)
-		}
-	}
-}
-
-// seal seals a sector of a chain that is laid by hand.
-func seal(t *testing.T, gen, tag, number, refs, next int, data string) string {
-	t.Helper()
-	b, e := crc.Seal(api.Sector, string([]byte{2, byte(gen), byte(tag), byte(number)})+low(refs, next, len(data))+data)
-	want(t, "crc.Seal", api.OK, e)
-	return b
-}
-
 // TestP1702SharedSector has two buckets that end in one sector, in which no byte tells them apart.
 func TestP1702SharedSector(t *testing.T) {
 	var one, two []api.Entry // seven each: their chains have nine bytes more than a sector, zero bytes and a place
@@ -440,7 +366,7 @@ func TestP1702SharedSector(t *testing.T) {
 		h.Look("each in its own")
 		p := places(t, h.Desk, h.Root)
 		first, _ := chain.Sectors(h.Desk, p[0])
-		want(t, "Set", api.OK, h.Desk.Set(p[1], seal(t, gen, 13, 0, 1, first[1], lay(two...)[:part])))
+		want(t, "Set", api.OK, h.Desk.Set(p[1], entries.Seal(t, gen, 13, 0, 1, first[1], lay(two...)[:part])))
 		kept(t, "both in one", h.Disk, h.Desk, func() {
 			want(t, "both in one: Check", api.ErrBroken, bucket.Check(h.Desk, gen, h.Root))
 			if l, e := bucket.Sectors(h.Desk, h.Root); l != nil || e != api.ErrBroken {
@@ -459,11 +385,11 @@ func TestP1702NextPlace(t *testing.T) {
 		m := h.Desk.Mark()
 		for _, next := range []int{29, 1000, 65535} {
 			data := lay(h.List...)[:part]
-			want(t, "Set", api.OK, h.Desk.Set(p[slot(4, 3)], seal(t, gen, 13, 0, 1, next, data)))
+			want(t, "Set", api.OK, h.Desk.Set(p[slot(4, 3)], entries.Seal(t, gen, 13, 0, 1, next, data)))
 			wantMisled(t, h, true)
 			h.WantNoRoot("Drop", bucket.Drop, gen, h.Root, api.ErrRange, h.List[0])
 			h.Desk.Back(m)
-			want(t, "Set", api.OK, h.Desk.Set(h.Root, seal(t, gen, 3, 0, 1, next, low(500)+sample.Bytes(part-2))))
+			want(t, "Set", api.OK, h.Desk.Set(h.Root, entries.Seal(t, gen, 3, 0, 1, next, low(500)+sample.Bytes(part-2))))
 			wantMisled(t, h, true)
 			h.Desk.Back(m)
 		}
@@ -486,15 +412,10 @@ func sound(k *desk.Desk, gen, root int) bool {
 				return false
 			}
 			heaps[n] = b.Data
-			l = append(l, readAll(b.Data)...)
+			l = append(l, entries.ReadAll(b.Data)...)
 		}
 	}
-	for n, x := range entries.Sorted(l...) {
-		if x.At < 1 || x.At > 1999 || x.Print.Kind < 1 || x.Print.Kind > 2 || n > 0 && entries.Sorted(l...)[n-1] == x {
-			return false
-		}
-	}
-	if len(l) == 0 || c.Data[:2] != low(len(l)) || len(c.Data) != 2+2*number(len(l)) {
+	if !entries.Sound(entries.Sorted(l...)) || len(l) == 0 || c.Data[:2] != low(len(l)) || len(c.Data) != 2+2*number(len(l)) {
 		return false
 	}
 	for n, p := range parts(l) {
@@ -518,7 +439,7 @@ func TestP1702Judged(t *testing.T) {
 			for n := range c.Data {
 				for _, by := range []byte{1, 2, 3, 7, 16, 128, 255} {
 					data := sample.Changed(c.Data, n, by)
-					lays(t, h.Desk, sectors, c, data)
+					entries.LayAgain(t, h.Desk, sectors, c, data)
 					e := api.OK
 					if !sound(h.Desk, gen, h.Root) {
 						e = api.ErrBroken
@@ -536,20 +457,5 @@ func TestP1702Judged(t *testing.T) {
 	}
 	if good < 1000 || bad < 1000 {
 		t.Errorf("%d sound, %d not", good, bad)
-	}
-}
-
-// lays lays other bytes of a chain, as many, in its sectors.
-func lays(t *testing.T, k *desk.Desk, sectors []int, c chain.Chain, data string) {
-	t.Helper()
-	for n, at := range sectors {
-		next, refs := 0, 0
-		if n < len(sectors)-1 {
-			next = sectors[n+1]
-		}
-		if n == 0 {
-			refs = 1
-		}
-		want(t, "Set", api.OK, k.Set(at, seal(t, c.Gen, c.Tag, n, refs, next, data[n*part:min(len(data), n*part+part)])))
 	}
 }

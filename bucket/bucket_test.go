@@ -6,7 +6,6 @@ import (
 	"slices"
 	"strings"
 	"testing"
-	"unsafe"
 
 	"masonry/api"
 	"masonry/bucket"
@@ -78,7 +77,7 @@ func shape(t witness.T, what string, k *desk.Desk, gen, root int, l []api.Entry)
 	if len(c.Data) != should {
 		t.Fatalf("%s: a root of %d bytes, not %d, of %d entries", what, len(c.Data), should, len(l))
 	}
-	all := sectorsOf(t, what, k, root)
+	all := entries.SectorsOf(t, what, k, root)
 	var places []int
 	for n, x := range p {
 		place := int(c.Data[2+2*n]) + 256*int(c.Data[3+2*n])
@@ -87,28 +86,12 @@ func shape(t witness.T, what string, k *desk.Desk, gen, root int, l []api.Entry)
 			t.Errorf("%s: bucket %d of %d, that has %d entries, stands at %d", what, n, len(p), len(x), place)
 		}
 		if place != 0 {
-			wantChain(t, what, k, place, gen, 13, lay(x...))
-			all = append(all, sectorsOf(t, what, k, place)...)
+			entries.WantChain(t, what, k, place, gen, 13, lay(x...))
+			all = append(all, entries.SectorsOf(t, what, k, place)...)
 		}
 	}
-	wantChain(t, what, k, root, gen, 3, low(len(l))+low(places...))
+	entries.WantChain(t, what, k, root, gen, 3, low(len(l))+low(places...))
 	return all
-}
-
-// sectorsOf tells the sectors of a chain.
-func sectorsOf(t witness.T, what string, k *desk.Desk, at int) []int {
-	t.Helper()
-	l, e := chain.Sectors(k, at)
-	witness.Want(t, what+": chain.Sectors", api.OK, e)
-	return l
-}
-
-// wantChain asks for the chain at a place.
-func wantChain(t witness.T, what string, k *desk.Desk, at, gen, tag int, data string) {
-	t.Helper()
-	if got, e := chain.Get(k, at); got != (chain.Chain{Gen: gen, Tag: tag, Refs: 1, Data: data}) || e != api.OK {
-		t.Errorf("%s: at %d: %x, %d, not the form %d, the tag %d, %x", what, at, got, e, gen, tag, data)
-	}
 }
 
 // P1701: Slot.
@@ -223,8 +206,8 @@ func TestP1701Written(t *testing.T) {
 	}
 	first := "\x01\x02\x01\x00\x00" + p + strings.Repeat("\x00", 12)
 	even := "\x01\x04\x00\x00\x00" + p + strings.Repeat("\x00", 12) + "\x01\x00"
-	wantChain(t, "even", h.Desk, int(root.Data[2]), 2, 13, first+"\x03\x00"+first+"\x07\x00"+even+"\x02\x02\x01\x00\x00"+p+strings.Repeat("p", 12)+"\x07\x00")
-	wantChain(t, "odd", h.Desk, int(root.Data[4]), 2, 13, "\x01\x03\x01\x00\x00"+p+strings.Repeat("\x00", 12)+"\x08\x07")
+	entries.WantChain(t, "even", h.Desk, int(root.Data[2]), 2, 13, first+"\x03\x00"+first+"\x07\x00"+even+"\x02\x02\x01\x00\x00"+p+strings.Repeat("p", 12)+"\x07\x00")
+	entries.WantChain(t, "odd", h.Desk, int(root.Data[4]), 2, 13, "\x01\x03\x01\x00\x00"+p+strings.Repeat("\x00", 12)+"\x08\x07")
 }
 
 // TestP1701Empty has entries of one hash: all buckets but one are empty, and stand nowhere, while others come beside it.
@@ -267,6 +250,11 @@ func TestP1702Two(t *testing.T)       { table.AskTwo(t) }
 func TestP1702Power(t *testing.T)     { table.AskPower(t) }
 func TestP1702NotSynced(t *testing.T) { table.AskNotSynced(t) }
 func TestP1702Run(t *testing.T)       { table.AskRun(t) }
+func TestP1702Spoilt(t *testing.T)    { table.AskSpoilt(t, lists()) }
+func TestP1702TwoForms(t *testing.T)  { table.AskTwoForms(t) }
+func TestP1702Texts(t *testing.T)     { table.AskHandedTexts(t) }
+func TestP1702Own(t *testing.T)       { table.AskAnswersOfTheirOwn(t) }
+func TestP1702StaleHome(t *testing.T) { table.AskStaleAndCommitted(t) }
 
 // TestP1702Shared has as many entries in a bucket as its chain holds, and one more.
 func TestP1702Shared(t *testing.T) {
@@ -407,77 +395,5 @@ func TestP1702InPlace(t *testing.T) {
 		}
 		h.Drops("all", h.List...)
 		h.Adds("in what was given back", of(1, 4, 1, 1))
-	}
-}
-
-// TestP1702TwoForms changes a table of one form by another one: what is put anew has that form, so that it is of none.
-func TestP1702TwoForms(t *testing.T) {
-	h := table.With(t, 200, 1, mixed(30)...)
-	root, e := bucket.Add(h.Desk, 2, h.Root, of(1, 7, 7, 7))
-	want(t, "Add", api.OK, e)
-	l, e := bucket.All(h.Desk, root)
-	if !slices.Equal(l, entries.Sorted(append(mixed(30), of(1, 7, 7, 7))...)) || e != api.OK {
-		t.Errorf("All: %d entries, %d", len(l), e)
-	}
-	for gen := range 5 {
-		want(t, "Check", api.ErrBroken, bucket.Check(h.Desk, gen, root))
-	}
-	root, e = bucket.Drop(h.Desk, 3, root, l...)
-	if root != 0 || e != api.OK {
-		t.Errorf("Drop: %d, %d", root, e)
-	}
-	witness.WantUsed(t, "Drop", h.Desk, 0, 1)
-}
-
-// TestP1702StaleAndCommitted has a root that was given back, and can still be read where it was committed: it can't be given back again.
-func TestP1702StaleAndCommitted(t *testing.T) {
-	for gen := 1; gen <= 3; gen++ {
-		h := table.With(t, api.Least, gen, mixed(9)...)
-		want(t, "Sync", api.OK, h.Desk.Sync())
-		was := *h
-		h.Drops("all", h.List...)
-		was.NoAdd("given back", api.ErrRange, of(1, 7, 7, 7))
-		was.NoDrop("given back", api.ErrRange, was.List[0])
-		was.NoDrop("given back", api.ErrRange, was.List...)
-		was.NoDrop("given back", api.ErrNone, of(1, 7, 7, 7))
-	}
-}
-
-// text tells a text that shares its memory with bytes.
-func text(b []byte) string { return unsafe.String(unsafe.SliceData(b), len(b)) }
-
-// TestP1702HandedTexts hands in prints whose memory is changed behind the call.
-func TestP1702HandedTexts(t *testing.T) {
-	for gen := 1; gen <= 3; gen++ {
-		h := table.Empty(t, api.Least, gen)
-		for n, x := range mixed(12) {
-			b := []byte(x.Print.Sum)
-			given := []api.Entry{{Print: api.Print{Kind: x.Print.Kind, Sum: text(b)}, At: x.At}}
-			root, e := bucket.Add(h.Desk, gen, h.Root, given...)
-			want(t, "Add", api.OK, e)
-			if n%3 == 2 {
-				root, e = bucket.Drop(h.Desk, gen, root, given...)
-				want(t, "Drop", api.OK, e)
-				root, e = bucket.Add(h.Desk, gen, root, given...)
-				want(t, "Add", api.OK, e)
-			}
-			clear(b)
-			h.Root, h.List = root, entries.Sorted(append(h.List, x)...)
-			h.Look("handed in, and changed")
-		}
-	}
-}
-
-// TestP1702AnswersOfTheirOwn asks that the prints of two answers share no memory.
-func TestP1702AnswersOfTheirOwn(t *testing.T) {
-	h := table.With(t, api.Least, 2, mixed(12)...)
-	one, _ := bucket.All(h.Desk, h.Root)
-	two, _ := bucket.All(h.Desk, h.Root)
-	at := map[*byte]int{}
-	for _, x := range slices.Concat(one, two, h.List) {
-		at[unsafe.StringData(x.Print.Sum)]++
-	}
-	if len(at) != 36 {
-		t.Errorf("%d texts, not 36", len(at))
 	}
 }

@@ -7,6 +7,7 @@ import (
 	"masonry/bits"
 	"masonry/chain"
 	"masonry/desk"
+	"masonry/entry"
 	"masonry/mark"
 )
 
@@ -15,7 +16,6 @@ const (
 	each       = 4               // entries for which a table gets one bucket more
 	bucketTag  = api.Bucket + 10 // the tag of a bucket's chain; that of the root's is api.Bucket
 	half       = 2               // bytes of a Half
-	laid       = 33              // bytes of a print, as mark.Lay lays it
 	nowhere    = 0               // the place of an empty table, and of an empty bucket
 )
 
@@ -112,19 +112,18 @@ func (t *table) at(n int) (*bucket, api.Errno) {
 // fit tells whether entries may be all those of a bucket that stands somewhere.
 func (t *table) fit(n int, l []api.Entry) bool {
 	for _, x := range l {
-		if !may(x) || t.slot(x.Print) != n {
+		if !entry.May(x) || t.slot(x.Print) != n {
 			return false
 		}
 	}
-	return len(l) > 0 && rise(l)
+	return len(l) > 0 && entry.Rise(l)
 }
 
 // entriesOf tells the entries that are laid in bytes; where there is none, it tells one that may not be.
 func entriesOf(data string) []api.Entry {
 	var l []api.Entry
 	for i := bits.On(data); i.Left() > 0; {
-		p, _ := mark.Read(i.Raw(laid))
-		l = append(l, api.Entry{Print: p, At: i.Half()})
+		l = append(l, entry.Read(i))
 	}
 	return l
 }
@@ -135,13 +134,13 @@ func (t *table) find(x api.Entry) (b *bucket, at int, there bool, e api.Errno) {
 	if e != api.OK {
 		return nil, 0, false, e
 	}
-	at, there = slices.BinarySearchFunc(b.entries, x, compare)
+	at, there = slices.BinarySearchFunc(b.entries, x, entry.Compare)
 	return b, at, there, api.OK
 }
 
 // add adds an entry.
 func (t *table) add(x api.Entry) api.Errno {
-	if !may(x) {
+	if !entry.May(x) {
 		return api.ErrArg
 	}
 	b, at, there, e := t.find(x)
@@ -215,7 +214,7 @@ func (t *table) merge() api.Errno {
 	}
 	if len(from.entries) > 0 {
 		to.entries, to.changed = append(to.entries, from.entries...), true
-		slices.SortFunc(to.entries, compare)
+		slices.SortFunc(to.entries, entry.Compare)
 	}
 	if from.place != nowhere {
 		t.gone = append(t.gone, from.place)
@@ -285,10 +284,7 @@ func (b *bucket) put(k *desk.Desk, gen int) api.Errno {
 		return api.OK
 	}
 	o := new(bits.Out)
-	for _, x := range b.entries {
-		p, _ := mark.Lay(x.Print) // what may be in a table can be laid
-		o.Raw(p).Half(x.At)
-	}
+	entry.Lay(o, b.entries...)
 	data, _ := o.End()
 	var e api.Errno
 	b.place, e = chain.Put(k, gen, bucketTag, data)
@@ -308,7 +304,7 @@ func (t *table) all() ([]api.Entry, api.Errno) {
 	if len(l) != t.count {
 		return nil, api.ErrBroken
 	}
-	slices.SortFunc(l, compare)
+	slices.SortFunc(l, entry.Compare)
 	return l, api.OK
 }
 

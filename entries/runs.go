@@ -2,6 +2,7 @@ package entries
 
 import (
 	"slices"
+	"unsafe"
 
 	"masonry/api"
 	"masonry/desks"
@@ -127,6 +128,47 @@ func (c Kind) AskAnswers(t witness.T) {
 		clear(found)
 		clear(sectors)
 		h.Look("behind answers")
+	}
+}
+
+// text tells a text that shares its memory with bytes.
+func text(b []byte) string { return unsafe.String(unsafe.SliceData(b), len(b)) }
+
+// AskHandedTexts hands in prints whose memory is changed behind the call.
+func (c Kind) AskHandedTexts(t witness.T) {
+	t.Helper()
+	for gen := 1; gen <= 3; gen++ {
+		h := c.Empty(t, api.Least, gen)
+		for n, x := range Mixed(12) {
+			b := []byte(x.Print.Sum)
+			given := []api.Entry{{Print: api.Print{Kind: x.Print.Kind, Sum: text(b)}, At: x.At}}
+			root, e := c.Add(h.Desk, gen, h.Root, given...)
+			witness.Want(t, "Add", api.OK, e)
+			if n%3 == 2 {
+				root, e = c.Drop(h.Desk, gen, root, given...)
+				witness.Want(t, "Drop", api.OK, e)
+				root, e = c.Add(h.Desk, gen, root, given...)
+				witness.Want(t, "Add", api.OK, e)
+			}
+			clear(b)
+			h.Root, h.List = root, Sorted(append(h.List, x)...)
+			h.Look("handed in, and changed")
+		}
+	}
+}
+
+// AskAnswersOfTheirOwn asks that the prints of two answers share no memory.
+func (c Kind) AskAnswersOfTheirOwn(t witness.T) {
+	t.Helper()
+	h := c.With(t, api.Least, 2, Mixed(12)...)
+	one, _ := c.All(h.Desk, h.Root)
+	two, _ := c.All(h.Desk, h.Root)
+	at := map[*byte]int{}
+	for _, x := range slices.Concat(one, two, h.List) {
+		at[unsafe.StringData(x.Print.Sum)]++
+	}
+	if len(at) != 36 {
+		t.Errorf("%d texts, not 36", len(at))
 	}
 }
 
